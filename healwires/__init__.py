@@ -1,0 +1,1 @@
+"""How much can still go wrong on a link, whatever lies in it."""

@@ -1,0 +1,269 @@
+"""What the tests hold the package against: a second, slow way to tell what a link does, and wrong values."""
+
+import copy
+import itertools
+
+from healwires.errors import InvalidNumber
+
+BIT_OF_OLD = {"zero": 0, "one": 1}
+
+
+def counts_up_to(size, most):
+    """All tuples of so many counts, at most so much together."""
+    return [row for row in itertools.product(range(most + 1), repeat=size) if sum(row) <= most]
+
+
+def all_contents(link):
+    """All contents of a small link, straight from the definition."""
+    c, d, p, q = link
+    found = []
+    for bit, heard, other, done in itertools.product((0, 1), range(q), (0, 1), (False, True)):
+        lots = [None] + [("old", many) for many in range(1, p)]
+        if bit != other:
+            lots += [("new", many) for many in range(1, p)]
+        for lot, there, back in itertools.product(lots, counts_up_to(3, c), counts_up_to(2, d)):
+            found.append(((bit, heard), (other, lot, done), there, back))
+    return found
+
+
+def all_events(doubling=False):
+    words = ["bring", "drop"] + ["double"] * doubling
+    events = [("send",)] + [(word, name) for word in words for name in ("new", "zero", "one")]
+    words = ["miss", "hear"] + ["repeat"] * doubling
+    return sorted(events + [(word, bit) for word in words for bit in (0, 1)])
+
+
+def step(link, contents, event):
+    """(contents, wrong, turn ended, lot handed out) behind an event, None if it is not possible."""
+    c, d, p, q = link
+    (bit, heard), (other, lot, done), (new, zeros, ones), (nays, yeas) = contents
+    there, back = {"new": new, "zero": zeros, "one": ones}, [nays, yeas]
+    wrong, ended, handed = None, False, False
+    word, named = event[0], event[-1]
+    if word == "send":
+        if sum(there.values()) == c:
+            return None
+        there["new"] += 1
+    elif word in ("drop", "bring", "double"):
+        if there[named] == 0:
+            return None
+        there[named] -= 1
+    else:
+        if back[named] == 0:
+            return None
+        back[named] -= 1
+    if word == "double":
+        if sum(there.values()) + 1 == c:
+            return None
+        there[named] += 2
+    if word == "repeat":
+        if sum(back) + 1 == d:
+            return None
+        back[named] += 2
+    if word == "bring":
+        borne = bit if named == "new" else BIT_OF_OLD[named]
+        sort = "new" if named == "new" else "old"
+        if borne == other:
+            lot = None
+        else:
+            lot = (sort, lot[1] + 1) if lot and lot[0] == sort else (sort, 1)
+            if lot[1] == p:
+                handed = True
+                if sort == "old":
+                    wrong = "made"
+                elif done:
+                    wrong = "twice"
+                other, lot, done = 1 - other, None, done or sort == "new"
+        if borne == other and sum(back) < d:
+            back[borne] += 1
+    if word == "hear" and named == bit:
+        heard += 1
+        if heard == q:
+            ended = True
+            wrong = None if done else "lost"
+            there[("zero", "one")[bit]] += there["new"]
+            there["new"] = 0
+            lot = ("old", lot[1]) if lot else None
+            bit, heard, done = 1 - bit, 0, False
+    there = (there["new"], there["zero"], there["one"])
+    return (((bit, heard), (other, lot, done), there, tuple(back)), wrong, ended, handed)
+
+
+def walk(link, contents, events):
+    """(contents, wrong steps, turns ended, letters handed out) of a run, None if it is none."""
+    wrongs, turns, letters = [], 0, []
+    for event in events:
+        told = step(link, contents, event)
+        if told is None:
+            return None
+        contents, wrong, ended, handed = told
+        if wrong:
+            wrongs.append(wrong)
+        if handed:
+            letters.append(turns if event[1] == "new" else None)
+        turns += ended
+    return (contents, wrongs, turns, letters)
+
+
+def walk_far(link, contents, far):
+    """(contents, wrong steps, turns ended, lots handed out) of a far run, event by event; None if it is none."""
+    wrongs, turns, lots = [], 0, 0
+    for events, many in far:
+        told = walk(link, contents, [event for _ in range(many) for event in events])
+        if told is None or told[2] > 1 or len(told[3]) > 1:
+            return None
+        contents = told[0]
+        wrongs += told[1]
+        turns += told[2]
+        lots += len(told[3])
+    return (contents, wrongs, turns, lots)
+
+
+def lists_in(value):
+    """All list objects within a value."""
+    found = [value] if isinstance(value, list) else []
+    if isinstance(value, (list, tuple)):
+        for item in value:
+            found += lists_in(item)
+    return found
+
+
+def shares_lists(*values):
+    """Whether a list object occurs twice within some values."""
+    found = [id(one) for value in values for one in lists_in(value)]
+    return len(found) != len(set(found))
+
+
+def deep(levels):
+    value = []
+    for _ in range(levels):
+        value = [value]
+    return value
+
+
+ODD_VALUES = [
+    None, True, False, 0, 1, 2, -1, 10 ** 29, "", "send", "zero", "3 2 4 4", [], (), {}, [()], ((),), {"send": 1},
+    [None], (None,), ("send", "send"), (("send",),), deep(29), InvalidNumber(3), ((), (), (), ()), (1, 1, 1), [1, 1, 1, 1],
+]
+BAD_LINKS = ODD_VALUES + [
+    (0, 1, 1, 1), (1, 0, 1, 1), (1, 1, 0, 1), (1, 1, 1, 0), (1, 1, 1, -1), (True, 1, 1, 1), (1, 1, 1, True),
+    (1, 1, 1, 1, 1), ("1", 1, 1, 1), (1, None, 1, 1),
+]
+# For the link (3, 2, 4, 4).
+BAD_CONTENTS = ODD_VALUES + [
+    [(0, 2), (1, ("old", 3), True), (1, 0, 2), (0, 1)],
+    ([0, 2], (1, ("old", 3), True), (1, 0, 2), (0, 1)),
+    ((0, 2), [1, ("old", 3), True], (1, 0, 2), (0, 1)),
+    ((0, 2), (1, ["old", 3], True), (1, 0, 2), (0, 1)),
+    ((0, 2), (1, ("old", 3), True), [1, 0, 2], (0, 1)),
+    ((0, 2), (1, ("old", 3), True), (1, 0, 2), [0, 1]),
+    ((0, 2), (1, ("old", 3), True), (1, 0, 2)),
+    ((0, 2), (1, ("old", 3), True), (1, 0, 2), (0, 1), ()),
+    ((2, 2), (1, ("old", 3), True), (1, 0, 2), (0, 1)),
+    ((False, 2), (1, ("old", 3), True), (1, 0, 2), (0, 1)),
+    ((0, 4), (1, ("old", 3), True), (1, 0, 2), (0, 1)),
+    ((0, -1), (1, ("old", 3), True), (1, 0, 2), (0, 1)),
+    ((0, True), (1, ("old", 3), True), (1, 0, 2), (0, 1)),
+    ((0,), (1, ("old", 3), True), (1, 0, 2), (0, 1)),
+    ((0, 2, 0), (1, ("old", 3), True), (1, 0, 2), (0, 1)),
+    ((0, 2), (-1, ("old", 3), True), (1, 0, 2), (0, 1)),
+    ((0, 2), (True, ("old", 3), True), (1, 0, 2), (0, 1)),
+    ((0, 2), (1, ("old", 0), True), (1, 0, 2), (0, 1)),
+    ((0, 2), (1, ("old", 4), True), (1, 0, 2), (0, 1)),
+    ((0, 2), (1, ("old", True), True), (1, 0, 2), (0, 1)),
+    ((0, 2), (1, ("zero", 1), True), (1, 0, 2), (0, 1)),
+    ((0, 2), (1, ("old",), True), (1, 0, 2), (0, 1)),
+    ((0, 2), (1, ("old", 3, 3), True), (1, 0, 2), (0, 1)),
+    ((0, 2), (1, (), True), (1, 0, 2), (0, 1)),
+    ((0, 2), (1, (None, 1), True), (1, 0, 2), (0, 1)),
+    ((0, 2), (1, (["new"], 1), True), (1, 0, 2), (0, 1)),
+    ((0, 2), (0, ("new", 1), True), (1, 0, 2), (0, 1)),
+    ((0, 2), (1, False, True), (1, 0, 2), (0, 1)),
+    ((0, 2), (1, ("old", 3), 1), (1, 0, 2), (0, 1)),
+    ((0, 2), (1, ("old", 3), None), (1, 0, 2), (0, 1)),
+    ((0, 2), (1, ("old", 3)), (1, 0, 2), (0, 1)),
+    ((0, 2), (1, ("old", 3), True, True), (1, 0, 2), (0, 1)),
+    ((0, 2), (1, ("old", 3), True), (1, 1, 2), (0, 1)),
+    ((0, 2), (1, ("old", 3), True), (-1, 0, 2), (0, 1)),
+    ((0, 2), (1, ("old", 3), True), (True, 0, 2), (0, 1)),
+    ((0, 2), (1, ("old", 3), True), (1, 2), (0, 1)),
+    ((0, 2), (1, ("old", 3), True), (1, 0, 2, 0), (0, 1)),
+    ((0, 2), (1, ("old", 3), True), (1, 0, 2), (2, 1)),
+    ((0, 2), (1, ("old", 3), True), (1, 0, 2), (-1, 1)),
+    ((0, 2), (1, ("old", 3), True), (1, 0, 2), (0, True)),
+    ((0, 2), (1, ("old", 3), True), (1, 0, 2), (0,)),
+    ((0, 2), (1, ("old", 3), True), (1, 0, 2), (0, 1, 0)),
+    ((0, 2), (1, ("old", 3), True), (1, 0, 2), (0, "1")),
+]
+BAD_BITS = [value for value in ODD_VALUES if value not in (0, 1) or isinstance(value, bool)] + ["0", (0,)]
+BAD_EVENTS = ODD_VALUES + [
+    ["send"], ("Send",), ("send", 0), ("send", "new"), ("drop",), ("drop", "old"), ("drop", 0), ("drop", "two"),
+    ("bring",), ("bring", None), ("bring", ["new"]), ("bring", "new", "new"), ("miss",), ("miss", 2), ("miss", True),
+    ("miss", "zero"), ("hear", 2), ("hear", -1), ("hear", False), ("hear", "0"), ("hear", 0, 0), (0, "hear"),
+    ("turn", 0), ["hear", 0], (["send"],), ("double", "two"), ("repeat", True), ("repeat", 2), ("double",), ("repeat",),
+]
+BAD_RUNS = [value for value in ODD_VALUES if value != []] + [
+    (("send",),), [["send"]], [("send",), ("hear", 2)], [("send",), None], [("hear", True)], ("send",),
+    [([("send",)], 1)],
+]
+BAD_FARS = [value for value in ODD_VALUES if value != []] + [
+    [("send",)], [(("send",), 2)], [((("send",),), 2)], [([("send",)], -1)], [([("send",)], True)],
+    [([("send",)], None)], [([("send",)], "2")], [([], 1)], [[[("send",)], 1]], [([("send",)],)],
+    [([("send",)], 1, 1)], ([("send",)], 1), (([("send",)], 1),), [([("send",)], 1), ([("hear", False)], 1)],
+    [([("send",), ["send"]], 1)], [([("send",)], 1), None],
+]
+
+
+def check_errors(case, function, names, good, wrong):
+    """Each argument wrong in its turn, then each two at once: the first one is told, by the argument itself.
+
+    wrong has, for each parameter, None or a tuple of an error and a list of values for which it is raised.
+    """
+    function(*good)
+    function(**dict(zip(names, good)))
+    for place, told in enumerate(wrong):
+        if told is None:
+            continue
+        error, values = told
+        for value in values:
+            args = list(good)
+            args[place] = value
+            expect(case, function, names, args, error, value)
+        for later in range(place + 1, len(wrong)):
+            if wrong[later] is None:
+                continue
+            for value, other in itertools.product(values[-3:], wrong[later][1][-3:]):
+                args = list(good)
+                args[place], args[later] = value, other
+                expect(case, function, names, args, error, value)
+
+
+def expect(case, function, names, args, error, value):
+    """A call, by position and by names, raises just this error with the very value, and changes nothing."""
+    before = copy.deepcopy(args)
+    for call in (lambda: function(*args), lambda: function(**dict(zip(names, args)))):
+        with case.assertRaises(error) as caught:
+            call()
+        case.assertIs(caught.exception.__class__, error)
+        case.assertIs(caught.exception.value, value, (function, args))
+        case.assertEqual(told(args), told(before))
+
+
+def told(value):
+    """What a value shows; errors have no == of their own."""
+    return repr(value)
+
+
+def check_unchanged(case, function, *args):
+    """A call changes none of its arguments, tells the same again, and hands out lists of its own alone."""
+    before = copy.deepcopy(args)
+    first = function(*args)
+    case.assertEqual(args, before)
+    second = function(*copy.deepcopy(args))
+    case.assertEqual(first, second)
+    third = function(*args)
+    case.assertFalse(shares_lists(first))
+    case.assertFalse(shares_lists(first, third))
+    for mine, theirs in itertools.product(lists_in(first), lists_in(list(args))):
+        case.assertIsNot(mine, theirs)
+    return first
