@@ -1,6 +1,6 @@
 """Links, contents, events and runs as data."""
 
-from healwires.errors import InvalidBit, InvalidContents, InvalidEvent, InvalidLink, InvalidRun, TooMany
+from healwires.errors import InvalidBit, InvalidContents, InvalidEvent, InvalidLink, InvalidRun, TooMany, Unlike
 
 COPIES = ("new", "zero", "one")
 # Python's order, so that what is picked from here is in order, too.
@@ -39,7 +39,7 @@ def is_link(value):
 
 def is_listed(value, events):
     """Whether a value is one of some events, with a number as its bit."""
-    return isinstance(value, tuple) and value in events and (isinstance(value[-1], str) or is_bit(value[-1]))
+    return value in events and (isinstance(value[-1], str) or is_bit(value[-1]))
 
 
 def is_event(value):
@@ -49,20 +49,30 @@ def is_event(value):
 
 def is_run(value):
     """Whether a value is a run, of whatever contents."""
-    return isinstance(value, list) and all([is_event(event) for event in value])
+    return is_run_of(value, EVENTS)
+
+
+def is_run_of(value, events):
+    """Whether a value is a list of some events."""
+    return isinstance(value, list) and all([is_listed(event, events) for event in value])
 
 
 def is_far_run(value):
     """Whether a value is a far run, of whatever contents."""
-    return isinstance(value, list) and all([is_item(item) for item in value])
+    return is_far_of(value, EVENTS)
 
 
-def is_item(value):
-    """Whether a value is an item of a far run."""
+def is_far_of(value, events):
+    """Whether a value is a far run in which some events may stand."""
+    return isinstance(value, list) and all([is_item_of(item, events) for item in value])
+
+
+def is_item_of(value, events):
+    """Whether a value is an item of a far run in which some events may stand."""
     if not is_tuple_of(value, 2):
         return False
-    events, many = value
-    return is_run(events) and len(events) > 0 and is_count(many)
+    gone_through, many = value
+    return is_run_of(gone_through, events) and len(gone_through) > 0 and is_count(many)
 
 
 def is_contents(link, value):
@@ -133,8 +143,14 @@ def need_event(event):
         raise InvalidEvent(event)
 
 
+def need_sound(link):
+    """Refuse a link that is not sound."""
+    if not is_sound(link):
+        raise Unlike(link)
+
+
 def is_sound(link):
-    """Whether a link has at least as many equal copies, and answers, as its wires hold."""
+    """Whether a link takes at least as many equal copies, and answers, as its wires hold."""
     need_link(link)
     return link[2] >= link[0] and link[3] >= link[1]
 

@@ -14,16 +14,19 @@ def borne_by(contents, copy):
 
 
 def lying(contents, event):
-    """How many copies or answers lie there of the sort that an event names; not for sendings."""
+    """How many copies or answers lie there like the one that an event names; not for sendings."""
     named = event[1]
     return contents[2][COPIES.index(named)] if named in COPIES else contents[3][named]
 
 
 def can_happen(link, contents, event):
-    """Whether an event is possible."""
-    if event[0] == "send":
-        return sum(contents[2]) < link[0]
-    return lying(contents, event) > 0
+    """Whether an event is possible, also one of wires that double."""
+    word = event[0]
+    if word in ("send", "double") and sum(contents[2]) == link[0]:
+        return False
+    if word == "repeat" and sum(contents[3]) == link[1]:
+        return False
+    return word == "send" or lying(contents, event) > 0
 
 
 def changed(counts, place, by):
@@ -32,18 +35,18 @@ def changed(counts, place, by):
 
 
 def moved(link, contents, event):
-    """The contents behind a possible event."""
+    """The contents behind a possible event, also one of wires that double."""
     word = event[0]
     if word == "bring":
         return brought(link, contents, event[1])
     if word == "hear":
         return answered_by(link, contents, event[1])
     sender, receiver, there, back = contents
-    if word == "miss":
-        return (sender, receiver, there, changed(back, event[1], -1))
-    if word == "drop":
-        return (sender, receiver, changed(there, COPIES.index(event[1]), -1), back)
-    return (sender, receiver, changed(there, 0, 1), back)
+    by = 1 if word in ("send", "double", "repeat") else -1
+    if word in ("miss", "repeat"):
+        return (sender, receiver, there, changed(back, event[1], by))
+    copy = "new" if word == "send" else event[1]
+    return (sender, receiver, changed(there, COPIES.index(copy), by), back)
 
 
 def brought(link, contents, copy):

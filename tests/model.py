@@ -2,6 +2,7 @@
 
 import copy
 import itertools
+import random
 
 from healwires.errors import InvalidNumber
 
@@ -24,6 +25,12 @@ def all_contents(link):
         for lot, there, back in itertools.product(lots, counts_up_to(3, c), counts_up_to(2, d)):
             found.append(((bit, heard), (other, lot, done), there, back))
     return found
+
+
+def drawn_contents(link, most=700):
+    """All contents of a smaller link, so many of a larger one."""
+    everything = all_contents(link)
+    return random.Random(16).sample(everything, min(len(everything), most))
 
 
 def all_events(doubling=False):
@@ -267,3 +274,101 @@ def check_unchanged(case, function, *args):
     for mine, theirs in itertools.product(lists_in(first), lists_in(list(args))):
         case.assertIsNot(mine, theirs)
     return first
+
+
+def harms(link, doubling=False, most=9):
+    """The greatest number of wrong steps of all runs, for all contents of a small link, by going through them all."""
+    behind, ahead = {}, {}
+    for contents in all_contents(link):
+        behind[contents] = []
+        for event in all_events(doubling):
+            told = step(link, contents, event)
+            if told is not None:
+                behind[contents].append((told[0], told[1]))
+                ahead.setdefault(told[0], []).append(contents)
+    found = {contents: 0 for contents in behind}
+    for many in range(1, most + 1):
+        # Those with so many: a wrong step into those with one less, and all from which these can be reached.
+        reached = [
+            contents for contents, steps in behind.items()
+            if any(wrong and found[later] >= many - 1 for later, wrong in steps)]
+        seen = set(reached)
+        while reached:
+            for other in ahead.get(reached.pop(), []):
+                if other not in seen:
+                    seen.add(other)
+                    reached.append(other)
+        if not seen:
+            break
+        for contents in seen:
+            found[contents] = many
+    return found
+
+
+def some_contents_of(link, draw):
+    """Any contents of a link of whatever sizes, often at its bounds."""
+    c, d, p, q = link
+
+    def count(most):
+        return draw.choice([0, most, draw.randint(0, most), min(1, most)])
+
+    bit, other = draw.randint(0, 1), draw.randint(0, 1)
+    lot = None
+    if p > 1 and draw.random() < 0.7:
+        lot = (draw.choice(["new", "old"] if bit != other else ["old"]), max(1, count(p - 1)))
+    first = count(c)
+    second = count(c - first)
+    there = [first, second, count(c - first - second)]
+    back = [count(d)]
+    back.append(count(d - back[0]))
+    draw.shuffle(there)
+    draw.shuffle(back)
+    return ((bit, count(q - 1)), (other, lot, draw.random() < 0.5), tuple(there), tuple(back))
+
+
+def kinds_for_ever(link, doubling=False):
+    """The wrong kinds that come in rounds, for all contents of a small link: by the parts whose contents lead to all others.
+
+    The parts are found by Tarjan's way, with a stack of its own.
+    """
+    steps = {}
+    for contents in all_contents(link):
+        told = [step(link, contents, event) for event in all_events(doubling)]
+        steps[contents] = [(one[0], one[1]) for one in told if one is not None]
+    number, low, part, kinds, stack = {}, {}, {}, {}, []
+    for root in steps:
+        if root in number:
+            continue
+        number[root] = low[root] = len(number)
+        stack.append(root)
+        work = [(root, iter(steps[root]))]
+        while work:
+            contents, further = work[-1]
+            for later, _ in further:
+                if later not in number:
+                    number[later] = low[later] = len(number)
+                    stack.append(later)
+                    work.append((later, iter(steps[later])))
+                    break
+                if later not in part:
+                    low[contents] = min(low[contents], number[later])
+            else:
+                work.pop()
+                if work:
+                    low[work[-1][0]] = min(low[work[-1][0]], low[contents])
+                if low[contents] == number[contents]:
+                    members = [stack.pop()]
+                    while members[-1] != contents:
+                        members.append(stack.pop())
+                    for one in members:
+                        part[one] = number[contents]
+                    # Parts that are led to are done already: what comes in theirs comes from here, too.
+                    found = set()
+                    for one in members:
+                        for later, wrong in steps[one]:
+                            if part[later] != part[one]:
+                                found |= kinds[part[later]]
+                            elif wrong:
+                                found.add(wrong)
+                    kinds[number[contents]] = found
+    return {contents: sorted(kinds[part[contents]]) for contents in steps}

@@ -16,6 +16,24 @@ INTERFACE = {
         "possible_events(link, contents); is_possible(link, contents, value); behind(link, contents, event); "
         "wrong_step(link, contents, event); leading_to(link, contents, other); ends_turn(link, contents, event); "
         "hands_out(link, contents, event)"),
+    "runs": (
+        "can_go(link, contents, value); after(link, contents, events); wrong_steps(link, contents, events); "
+        "turns_ended(link, contents, events); handed_out(link, contents, events); can_go_far(link, contents, value); "
+        "far_after(link, contents, far); far_wrong_steps(link, contents, far); far_turns(link, contents, far); "
+        "far_handed(link, contents, far); tally(far)"),
+    "harm": (
+        "answers_count(link, contents); old_count(link, contents); signs(link, contents); harm(link, contents); "
+        "is_harmless(link, contents); harm_behind(link, contents, event); keeping_events(link, contents); "
+        "some_contents(link, many)"),
+    "worst": (
+        "first_wrong(link, contents); worst_run(link, contents); is_worst_run(link, contents, value); "
+        "is_worst_event(link, contents, event); worst_by(link, contents, event)"),
+    "endless": (
+        "is_endless(link, contents, value); endless_run(link, contents); endless_kinds(link); "
+        "endless_of(link, contents, wrong)"),
+    "doubling": (
+        "behind_doubling(link, contents, event); is_doubling_endless(link, contents, value); "
+        "doubling_run(link, contents)"),
 }
 
 
