@@ -120,6 +120,6 @@ def endless_kinds(link):
 def endless_of(link, contents, wrong):
     """An endless run in whose round a wrong step of a kind comes, None if there is none."""
     need_contents(link, contents)
-    if not isinstance(wrong, str) or wrong not in ("lost", "made", "twice"):
+    if wrong not in ("lost", "made", "twice"):
         raise InvalidEvent(wrong)
     return endless_from(link, contents) if wrong in kinds_of(link) else None

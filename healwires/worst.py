@@ -42,7 +42,8 @@ def to_lost(link, contents):
     """The end of a turn by new copies, where the bits are alike."""
     bit, heard = contents[0]
     ahead = making_room(link, contents)
-    if contents[3][bit] == 0 and contents[3][1 - bit] == link[1]:
+    # An answer of the bit could not be put into a wire that is full of other ones.
+    if contents[3][1 - bit] == link[1]:
         ahead.append(("miss", 1 - bit))
     return once(ahead) + [([("send",), ("bring", "new"), ("hear", bit)], link[3] - heard)]
 

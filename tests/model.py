@@ -150,7 +150,8 @@ def deep(levels):
 
 ODD_VALUES = [
     None, True, False, 0, 1, 2, -1, 10 ** 29, "", "send", "zero", "3 2 4 4", [], (), {}, [()], ((),), {"send": 1},
-    [None], (None,), ("send", "send"), (("send",),), deep(29), InvalidNumber(3), ((), (), (), ()), (1, 1, 1), [1, 1, 1, 1],
+    [None], (None,), ("send", "send"), (("send",),), deep(29), InvalidNumber(3), ((), (), (), ()), (1, 1, 1),
+    [1, 1, 1, 1],
 ]
 BAD_LINKS = ODD_VALUES + [
     (0, 1, 1, 1), (1, 0, 1, 1), (1, 1, 0, 1), (1, 1, 1, 0), (1, 1, 1, -1), (True, 1, 1, 1), (1, 1, 1, True),
@@ -327,9 +328,9 @@ def some_contents_of(link, draw):
 
 
 def kinds_for_ever(link, doubling=False):
-    """The wrong kinds that come in rounds, for all contents of a small link: by the parts whose contents lead to all others.
+    """The wrong kinds that come in rounds, for all contents of a small link.
 
-    The parts are found by Tarjan's way, with a stack of its own.
+    They come in the parts whose contents lead to each other; these are found by Tarjan's way, with a stack of its own.
     """
     steps = {}
     for contents in all_contents(link):

@@ -185,7 +185,8 @@ class FarAndSpread(unittest.TestCase):
         self.assertEqual(len(spread_out([([("send",)], 300)])), 300)
         self.assertEqual(len(spread_out([([("send",)] * 100, 2), ([("hear", 0)], 100)])), 300)
         for far, many in (
-            ([([("send",)], 301)], 301), ([([("send",)] * 3, 101)], 303), ([([("send",)], 300), ([("hear", 0)], 1)], 301),
+            ([([("send",)], 301)], 301), ([([("send",)] * 3, 101)], 303),
+            ([([("send",)], 300), ([("hear", 0)], 1)], 301),
             ([([("send",), ("send",)], 10 ** 30 - 1)], 2 * 10 ** 30 - 2),
         ):
             with self.assertRaises(TooMany) as caught:

@@ -8,8 +8,8 @@ from healwires.errors import InvalidContents, InvalidEvent, InvalidLink
 from healwires.runs import can_go, can_go_far, far_gone
 from healwires.steps import behind, is_possible
 from model import (
-    BAD_CONTENTS, BAD_EVENTS, BAD_FARS, BAD_LINKS, all_contents, all_events, check_errors, check_unchanged, drawn_contents,
-    kinds_for_ever, shares_lists, some_contents_of, step, walk_far,
+    BAD_CONTENTS, BAD_EVENTS, BAD_FARS, BAD_LINKS, all_contents, all_events, check_errors, check_unchanged,
+    drawn_contents, kinds_for_ever, shares_lists, some_contents_of, step, walk_far,
 )
 
 LINK = (3, 2, 4, 4)
@@ -146,8 +146,8 @@ class Endless(unittest.TestCase):
         self.assertTrue(is_doubling_endless(link, start, (ahead, lap)))
         self.assertFalse(is_endless(link, start, (ahead, lap)))
         for value in (
-            None, (), [ahead, lap], (ahead, lap, []), (ahead,), (ahead, []), ([], []), (ahead, lap[:-1]), (lap[1:], lap),
-            (ahead, [([("double", "new"), ("drop", "new")], 1)]), ([([("double", "two")], 0)], lap),
+            None, (), [ahead, lap], (ahead, lap, []), (ahead,), (ahead, []), ([], []), (ahead, lap[:-1]),
+            (lap[1:], lap), (ahead, [([("double", "new"), ("drop", "new")], 1)]), ([([("double", "two")], 0)], lap),
             (ahead, lap + [([("repeat", True)], 0)]), (ahead, None), (None, lap), ([([("double", "zero")], 1)], lap),
         ):
             self.assertIs(is_doubling_endless(link, start, value), False, value)

@@ -16,7 +16,9 @@ BIG = 10 ** 29
 KINDS = ["lost", "made", "twice"]
 # p equal to c, one less, far less; q equal to d, one less, far less; both.
 SOUND = [(1, 1, 1, 1), (2, 1, 2, 1), (1, 2, 1, 2), (2, 2, 2, 2), (1, 1, 2, 2), (2, 1, 3, 2)]
-FEW_COPIES = [(2, 1, 1, 1), (2, 1, 1, 2), (2, 2, 1, 2), (2, 2, 1, 1), (3, 1, 1, 1), (3, 1, 2, 1), (3, 2, 2, 2), (2, 3, 1, 2)]
+FEW_COPIES = [
+    (2, 1, 1, 1), (2, 1, 1, 2), (2, 2, 1, 2), (2, 2, 1, 1), (3, 1, 1, 1), (3, 1, 2, 1), (3, 2, 2, 2), (2, 3, 1, 2),
+]
 FEW_ANSWERS = [(1, 2, 1, 1), (1, 2, 2, 1), (2, 2, 2, 1), (1, 3, 1, 1), (1, 3, 1, 2), (1, 3, 2, 2), (2, 3, 3, 2)]
 
 
@@ -76,7 +78,8 @@ class Great(unittest.TestCase):
             [endless_kinds((3, 1, 2, 1)), endless_kinds((1, 2, 1, 1)), endless_kinds((2, 2, 2, 2)),
              endless_kinds((10 ** 29, 1, 10 ** 29 - 1, 5))],
             [["lost", "made", "twice"], ["lost", "made"], [], ["lost", "made", "twice"]])
-        go = [([("send",)], 2), ([("bring", "new"), ("hear", 0)], 1), ([("send",), ("bring", "new"), ("bring", "one")], 1)]
+        go = [([("send",)], 2), ([("bring", "new"), ("hear", 0)], 1),
+              ([("send",), ("bring", "new"), ("bring", "one")], 1)]
         self.assertFalse(is_endless((2, 1, 1, 1), right, (go, go)))
         self.assertEqual(
             [endless_of((1, 2, 1, 1), right, "twice"),
@@ -120,9 +123,10 @@ class Judged(unittest.TestCase):
         self.assertTrue(is_endless(link, start, (ahead + lap, lap)))
         self.assertTrue(is_endless(link, start, (ahead, lap + lap)))
         for value in (
-            None, [], (), (ahead,), [ahead, lap], (ahead, lap, []), (tuple(ahead), lap), (ahead, tuple(lap)), (ahead, None),
-            (None, lap), (ahead, []), ([], []), ([], turn), ([], turn + other), (turn + other, lap), (ahead, lap[:-1]),
-            (ahead, lap + turn), ({}, lap), ([([("double", "new")], 0)], lap), (ahead, lap + [([("repeat", 0)], 0)]),
+            None, [], (), (ahead,), [ahead, lap], (ahead, lap, []), (tuple(ahead), lap), (ahead, tuple(lap)),
+            (ahead, None), (None, lap), (ahead, []), ([], []), ([], turn), ([], turn + other), (turn + other, lap),
+            (ahead, lap[:-1]), (ahead, lap + turn), ({}, lap), ([([("double", "new")], 0)], lap),
+            (ahead, lap + [([("repeat", 0)], 0)]),
             (ahead, [([("hear", 0)], 1)]), ([([("hear", 0)], 1)], lap),
         ):
             self.assertIs(is_endless(link, start, value), False, value)

@@ -5,7 +5,8 @@ from healwires.contents import empty
 from healwires.errors import InvalidContents, InvalidLink, InvalidRun
 from healwires.runs import can_go_far, far_after, far_handed, far_turns, far_wrong_steps, tally
 from model import (
-    BAD_CONTENTS, BAD_FARS, BAD_LINKS, all_events, check_errors, check_unchanged, some_contents_of, step, walk, walk_far,
+    BAD_CONTENTS, BAD_FARS, BAD_LINKS, all_events, check_errors, check_unchanged, some_contents_of, step, walk,
+    walk_far,
 )
 
 LINK = (3, 2, 4, 4)
@@ -109,7 +110,8 @@ class AgainstSingleSteps(unittest.TestCase):
 
     def test_lots_begun_anew_and_lost_answers(self):
         draw = random.Random(8)
-        words = [("bring", "new"), ("bring", "zero"), ("bring", "one"), ("send",), ("miss", 0), ("miss", 1), ("hear", 0)]
+        words = [("bring", "new"), ("bring", "zero"), ("bring", "one"), ("send",), ("miss", 0), ("miss", 1)]
+        words.append(("hear", 0))
         link, possible = (60, 8, 25, 40), 0
         for _ in range(3000):
             contents = some_contents_of(link, draw)
@@ -225,11 +227,13 @@ class Edges(unittest.TestCase):
     def test_tally(self):
         self.assertEqual(tally([]), (0, 0, 0, 0, 0))
         self.assertEqual(tally([(all_events(), BIG)]), (BIG, 3 * BIG, 3 * BIG, 2 * BIG, 2 * BIG))
-        self.assertEqual(tally([([("send",)] * 3, 2), ([("hear", 0), ("send",)], 0), ([("miss", 1)], 4)]), (6, 0, 0, 4, 0))
+        far = [([("send",)] * 3, 2), ([("hear", 0), ("send",)], 0), ([("miss", 1)], 4)]
+        self.assertEqual(tally(far), (6, 0, 0, 4, 0))
 
     def test_errors(self):
         links, contents = (InvalidLink, BAD_LINKS), (InvalidContents, BAD_CONTENTS)
-        none = [[([("hear", 0)], 1)], [([("hear", 1)], 2)], [([("double", "new")], 1)], [([("send",), ("hear", 0)], BIG)]]
+        none = [[([("hear", 0)], 1)], [([("hear", 1)], 2)], [([("double", "new")], 1)]]
+        none.append([([("send",), ("hear", 0)], BIG)])
         fars = (InvalidRun, BAD_FARS + none)
         good = [LINK, MIXED, [([("hear", 1), ("drop", "new")], 1)]]
         check_errors(self, can_go_far, ["link", "contents", "value"], good, [links, contents, None])

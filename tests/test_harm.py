@@ -7,8 +7,8 @@ from healwires.harm import (
     answers_count, harm, harm_behind, is_harmless, keeping_events, old_count, signs, some_contents,
 )
 from model import (
-    BAD_CONTENTS, BAD_EVENTS, BAD_LINKS, ODD_VALUES, all_contents, all_events, check_errors, check_unchanged, expect, harms,
-    some_contents_of, step,
+    BAD_CONTENTS, BAD_EVENTS, BAD_LINKS, ODD_VALUES, all_contents, all_events, check_errors, check_unchanged, expect,
+    harms, some_contents_of, step,
 )
 
 LINK = (3, 2, 4, 4)
@@ -35,7 +35,8 @@ class Counts(unittest.TestCase):
             [1, 2, (True, False, True, True), 3, (False, False, False, False), 0, True])
         self.assertEqual(
             [harm_behind(link, full, ("hear", 0)), harm_behind(link, full, ("bring", "one")),
-             harm_behind(link, full, ("drop", "one")), harm_behind(link, full, ("miss", 0)), keeping_events(link, full)],
+             harm_behind(link, full, ("drop", "one")), harm_behind(link, full, ("miss", 0)),
+             keeping_events(link, full)],
             [2, 2, 1, 1, [("bring", "one"), ("hear", 0), ("send",)]])
         self.assertEqual(harm((3, 1, 3, 2), some_contents((3, 1, 3, 2), 2)), 2)
 

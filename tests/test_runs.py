@@ -5,7 +5,8 @@ from healwires.contents import empty, mirrored, mirrored_event
 from healwires.errors import InvalidContents, InvalidLink, InvalidRun
 from healwires.runs import after, can_go, handed_out, turns_ended, wrong_steps
 from model import (
-    BAD_CONTENTS, BAD_LINKS, BAD_RUNS, all_contents, all_events, check_errors, check_unchanged, some_contents_of, step, walk,
+    BAD_CONTENTS, BAD_LINKS, BAD_RUNS, all_contents, all_events, check_errors, check_unchanged, some_contents_of, step,
+    walk,
 )
 
 LINK = (3, 2, 4, 4)

@@ -28,7 +28,8 @@ class Examples(unittest.TestCase):
         bad = ((0, 0), (1, None, False), (0, 2, 0), (1, 0))
         self.assertEqual(
             [wrong_step(link, bad, ("hear", 0)), ends_turn(link, bad, ("hear", 0)),
-             hands_out(link, bad, ("bring", "zero")), behind(link, bad, ("hear", 0)), is_possible(link, bad, ("send",))],
+             hands_out(link, bad, ("bring", "zero")), behind(link, bad, ("hear", 0)),
+             is_possible(link, bad, ("send",))],
             ["lost", True, False, ((1, 0), (1, None, False), (0, 2, 0), (0, 0)), False])
 
 

@@ -6,7 +6,8 @@ from healwires.texts import (
     contents_of_text, far_of_text, link_of_text, text_of_contents, text_of_far, text_of_link,
 )
 from model import (
-    BAD_CONTENTS, BAD_FARS, BAD_LINKS, ODD_VALUES, all_contents, all_events, check_errors, check_unchanged, shares_lists,
+    BAD_CONTENTS, BAD_FARS, BAD_LINKS, ODD_VALUES, all_contents, all_events, check_errors, check_unchanged,
+    shares_lists,
 )
 
 LINK = (3, 2, 4, 4)
@@ -98,7 +99,8 @@ class Texts(unittest.TestCase):
 
     def test_no_contents(self):
         for text in (
-            "", "0 2", "0 2 | 1 old 3 done | 1 0 2", "0 2 | 1 old 3 done | 1 0 2 | 0 1 | 0", "00 2 | 1 old 3 done | 1 0 2 | 0 1",
+            "", "0 2", "0 2 | 1 old 3 done | 1 0 2", "0 2 | 1 old 3 done | 1 0 2 | 0 1 | 0",
+            "00 2 | 1 old 3 done | 1 0 2 | 0 1",
             "0 02 | 1 old 3 done | 1 0 2 | 0 1", "0 2 | 1 old 03 done | 1 0 2 | 0 1", "0 2|1 old 3 done|1 0 2|0 1",
             "0 2 | 1 old done | 1 0 2 | 0 1", "0 2 | 1 none 3 done | 1 0 2 | 0 1", "0 2 | 1 None done | 1 0 2 | 0 1",
             "0 2 | 1 old 3 Done | 1 0 2 | 0 1", "0 2 | 1 old 3 True | 1 0 2 | 0 1", "0 2 | 1 old 0 done | 1 0 2 | 0 1",
@@ -113,10 +115,10 @@ class Texts(unittest.TestCase):
     def test_no_far_runs(self):
         for text in (
             " ", ",", ", ", "x3", "send x1", "send x", "send x03", "send x-1", "send x3 ", "send x3, ", ", send",
-            "send,send", "send ,send", "send  x3", "send x 3", "send x3 x4", "send X3", "send + ", " + send", "send+send",
-            "send +send", "send x3 + send", "drop", "drop old", "drop 0", "hear", "hear 2", "hear zero", "hear 00",
-            "hear 01", "send 0", "Send", "send\n", "send\t", "send, , send", "send x3,, send", "send x1_0", "hear  0",
-            "double new", "repeat 0", "send x+3", "send x3.",
+            "send,send", "send ,send", "send  x3", "send x 3", "send x3 x4", "send X3", "send + ", " + send",
+            "send+send", "send +send", "send x3 + send", "drop", "drop old", "drop 0", "hear", "hear 2", "hear zero",
+            "hear 00", "hear 01", "send 0", "Send", "send\n", "send\t", "send, , send", "send x3,, send", "send x1_0",
+            "hear  0", "double new", "repeat 0", "send x+3", "send x3.",
         ):
             self.refuse(far_of_text, text)
 

@@ -8,8 +8,8 @@ from healwires.moves import moved
 from healwires.runs import far_after, far_wrong_steps, tally
 from healwires.worst import first_wrong, is_worst_event, is_worst_run, worst_by, worst_run
 from model import (
-    BAD_CONTENTS, BAD_EVENTS, BAD_FARS, BAD_LINKS, all_contents, all_events, check_errors, check_unchanged, expect, harms,
-    shares_lists, some_contents_of, step, walk_far,
+    BAD_CONTENTS, BAD_EVENTS, BAD_FARS, BAD_LINKS, all_contents, all_events, check_errors, check_unchanged, expect,
+    harms, shares_lists, some_contents_of, step, walk_far,
 )
 
 LINK = (3, 2, 4, 4)
