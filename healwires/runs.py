@@ -18,8 +18,10 @@ def gone_once(link, contents, events):
         if not can_happen(link, contents, event):
             return None
         later = moved(link, contents, event)
-        marks.extend(marks_of(contents, event, later))
-        cases.append(case_of(link, contents))
+        found = marks_of(contents, event, later)
+        marks.extend(found)
+        # What is alike ahead of an event by which a turn ends, or a lot is handed out, is another case all the same.
+        cases.append((case_of(link, contents), found))
         slacks.extend(slacks_of(link, contents, event, later))
         contents = later
     return (contents, marks, cases, slacks)

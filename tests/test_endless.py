@@ -2,6 +2,7 @@ import random
 import unittest
 
 from healwires.contents import empty, is_far_run
+from healwires.doubling import is_doubling_endless
 from healwires.endless import endless_kinds, endless_of, endless_run, is_endless
 from healwires.errors import InvalidContents, InvalidEvent, InvalidLink
 from healwires.runs import far_after, far_wrong_steps
@@ -145,6 +146,23 @@ class Judged(unittest.TestCase):
         kept = ((0, 0), (0, None, False), (0, 1, 0), (0, 0))
         lap = [("send",), ("bring", "new"), ("hear", 0), ("send",), ("bring", "new")]
         self.assertFalse(is_endless(link, kept, ([], [(lap, 2)])))
+
+    def test_a_turn_ends_within_an_item(self):
+        # Five kept answers are heard in one item; its turn ends by the second one.
+        for link in ((1, 6, 1, 2), (1, 6, 3, 2)):
+            start, many = empty(link, 0), link[2] - 1
+            lap = [
+                ([("send",), ("bring", "new")], many + 6),
+                ([("hear", 0), ("send",), ("bring", "new")], 1), ([("hear", 0)], 1),
+                ([("send",), ("bring", "new")], many + 1),
+                ([("hear", 1), ("send",), ("bring", "new")], 1), ([("hear", 1)], 1),
+                ([("hear", 0)], 5), ([("send",), ("bring", "new"), ("hear", 1)], 2),
+            ]
+            self.assertEqual(walk_far(link, start, lap)[:2], (start, ["lost", "lost"]))
+            for function in (is_endless, is_doubling_endless):
+                self.assertIs(function(link, start, ([], lap)), True)
+                self.assertIs(function(link, start, ([], lap[:-2] + [([("hear", 0)], 4)] + lap[-1:])), False)
+                self.assertIs(function(link, start, ([], lap[:-2] + [([("hear", 0)], 6)] + lap[-1:])), False)
 
     def test_whatever_is_no_far_run(self):
         link, start = (2, 1, 1, 1), empty((2, 1, 1, 1), 0)

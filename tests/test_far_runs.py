@@ -1,7 +1,7 @@
 import random
 import unittest
 
-from healwires.contents import empty
+from healwires.contents import empty, mirrored
 from healwires.errors import InvalidContents, InvalidLink, InvalidRun
 from healwires.runs import can_go_far, far_after, far_handed, far_turns, far_wrong_steps, tally
 from model import (
@@ -16,6 +16,13 @@ SMALL_LINKS = [
     (1, 1, 1, 1), (1, 2, 2, 1), (2, 1, 1, 2), (2, 2, 2, 2), (3, 1, 2, 1), (3, 3, 3, 3), (5, 4, 7, 9), (9, 12, 8, 11),
     (20, 20, 20, 20), (30, 3, 41, 50), (4, 30, 50, 41),
 ]
+# Lists by which a turn ends, or a lot is handed out, when they are gone through a few times.
+SHORT_LISTS = [
+    [("hear", 0)], [("hear", 1)], [("bring", "zero")], [("bring", "one")], [("bring", "new")],
+    [("send",), ("bring", "new")], [("hear", 0), ("miss", 1)], [("send",), ("bring", "new"), ("hear", 0)],
+    [("send",), ("bring", "new"), ("hear", 1)], [("bring", "zero"), ("hear", 1)], [("bring", "one"), ("hear", 0)],
+    [("bring", "zero"), ("hear", 0)], [("bring", "one"), ("hear", 1)], [("hear", 0), ("hear", 0)],
+]
 
 
 def drawn_item(link, contents, draw):
@@ -27,6 +34,19 @@ def drawn_item(link, contents, draw):
         events.append(event)
         contents = step(link, contents, event)[0]
     return (events, draw.choice([0, 1, 1, 2, 3, 7, 20, 60]))
+
+
+def nearly_there(link, heard, many, draw):
+    """Contents with so much heard, and so many in a lot, while wires are rather full."""
+    bit, other = draw.randint(0, 1), draw.randint(0, 1)
+    lot = draw.choice([("old", many), ("new" if bit != other else "old", many), None])
+    first, second = draw.randint(0, link[0]), draw.randint(link[1] // 2, link[1])
+    third = draw.randint(0, link[0] - first)
+    there = [first, third, draw.randint(0, link[0] - first - third)]
+    back = [second, draw.randint(0, link[1] - second)]
+    draw.shuffle(there)
+    draw.shuffle(back)
+    return ((bit, heard), (other, lot, draw.random() < 0.5), tuple(there), tuple(back))
 
 
 class AgainstSingleSteps(unittest.TestCase):
@@ -108,6 +128,22 @@ class AgainstSingleSteps(unittest.TestCase):
                     for many in (2, 5, 9):
                         self.check(link, some_contents_of(link, draw), [([one, other], many)])
 
+    def test_a_turn_ends_or_a_lot_is_handed_out_within_an_item(self):
+        draw = random.Random(18)
+        ending = {"turn": 0, "lot": 0, "both": 0}
+        for link in [(4, 6, 6, 3), (3, 12, 9, 9), (2, 6, 2, 2), (8, 9, 4, 5), (12, 12, 3, 12), (20, 20, 20, 20)]:
+            for heard in range(max(0, link[3] - 4), link[3]):
+                for missing in range(1, min(4, link[2])):
+                    for _ in range(12):
+                        contents = nearly_there(link, heard, link[2] - missing, draw)
+                        for events in SHORT_LISTS:
+                            far = [(events, draw.randint(2, 9))]
+                            self.check(link, contents, far)
+                            told = walk_far(link, contents, far)
+                            if told is not None and (told[2] or told[3]):
+                                ending["both" if told[2] and told[3] else "turn" if told[2] else "lot"] += 1
+        self.assertTrue(all(many > 100 for many in ending.values()), ending)
+
     def test_lots_begun_anew_and_lost_answers(self):
         draw = random.Random(8)
         words = [("bring", "new"), ("bring", "zero"), ("bring", "one"), ("send",), ("miss", 0), ("miss", 1)]
@@ -120,6 +156,10 @@ class AgainstSingleSteps(unittest.TestCase):
             self.check(link, contents, far)
             possible += can_go_far(link, contents, far)
         self.assertGreater(possible, 200)
+
+
+def mirrored_by(bit, contents):
+    return mirrored((BIG, BIG, BIG, BIG), contents) if bit else contents
 
 
 class Edges(unittest.TestCase):
@@ -184,6 +224,30 @@ class Edges(unittest.TestCase):
         self.assertEqual(far_turns((1, 1, 1, BIG), start, [together]), 1)
         self.assertEqual(far_handed((1, 1, 1, BIG), start, [together]), (1, 0, 0))
         self.assertFalse(can_go_far((1, 1, 1, BIG), start, [(together[0], BIG + 1)]))
+
+    def test_a_turn_that_ends_within_an_item_of_great_numbers(self):
+        link = (BIG, BIG, BIG, BIG)
+        for heard in range(BIG - 4, BIG):
+            for bit in (0, 1):
+                start = mirrored_by(bit, ((0, heard), (1, ("old", 5), False), (0, 0, 0), (BIG, 0)))
+                for many in (4, 5, 6, 7, 1000, BIG):
+                    far = [([("hear", bit)], many)]
+                    later = mirrored_by(bit, ((1, 0), (1, ("old", 5), False), (0, 0, 0), (BIG - many, 0)))
+                    self.assertEqual(far_after(link, start, far), later)
+                    self.assertEqual(far_wrong_steps(link, start, far), ["lost"])
+                    self.assertEqual(far_turns(link, start, far), 1)
+                self.assertFalse(can_go_far(link, start, [([("hear", bit)], BIG + 1)]))
+
+    def test_a_lot_that_is_handed_out_within_an_item_of_great_numbers(self):
+        link = (BIG, 7, BIG, BIG)
+        for many in range(BIG - 4, BIG):
+            start = ((1, 0), (1, ("old", many), True), (0, BIG, 0), (3, 0))
+            for times in (4, 5, 9, 1000, BIG):
+                far = [([("bring", "zero")], times)]
+                answered = min(7, 3 + times - (BIG - many - 1))
+                self.assertEqual(
+                    far_after(link, start, far), ((1, 0), (0, None, True), (0, BIG - times, 0), (answered, 0)))
+                self.assertEqual(far_handed(link, start, far), (0, 1, 0))
 
     def test_full_wires(self):
         link = (BIG, BIG, BIG, BIG)

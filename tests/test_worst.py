@@ -145,6 +145,15 @@ class Great(unittest.TestCase):
         shorter = far[:-1] + [(events, times - 1)] + ([(events[:-1], 1)] if events[1:] else [])
         self.assertEqual(len(far_wrong_steps(link, contents, shorter)), many - 1)
 
+    def test_a_turn_ends_within_an_item(self):
+        for heard in range(BIG - 4, BIG):
+            link, contents = (BIG, BIG, BIG, BIG), ((0, heard), (1, None, False), (0, 2, 3), (BIG - 1, 0))
+            for many in (4, 5, 1000, BIG - 1):
+                far = [([("hear", 0)], many), ([("send",), ("bring", "new"), ("hear", 1)], BIG)]
+                self.assertIs(is_worst_run(link, contents, far), True)
+                shorter = far[:1] + [(far[1][0], BIG - 1)]
+                self.assertIs(is_worst_run(link, contents, shorter), False)
+
     def test_the_examples_of_the_document(self):
         link, full = (2, 1, 2, 1), ((0, 0), (0, ("old", 1), False), (0, 0, 1), (1, 0))
         calm = ((0, 0), (1, None, False), (0, 1, 1), (0, 1))
