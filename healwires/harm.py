@@ -25,9 +25,8 @@ def signs_of(link, contents):
     return (even, contents[1][2], answers_of(contents) >= link[3], old_of(contents) >= link[2])
 
 
-def harm_of(link, contents):
-    """The harm of what is known to be contents of a sound link."""
-    even, done, answers_suffice, old_suffice = signs_of(link, contents)
+def harm_by(even, done, answers_suffice, old_suffice):
+    """The harm of all contents of sound links that have these four signs."""
     if even and done:
         return 2 if old_suffice else 0
     if even:
@@ -35,6 +34,12 @@ def harm_of(link, contents):
     if done:
         return 1
     return 2 if answers_suffice or old_suffice else 0
+
+
+def harm_of(link, contents):
+    """The harm of what is known to be contents of a sound link."""
+    even, done, answers_suffice, old_suffice = signs_of(link, contents)
+    return harm_by(even, done, answers_suffice, old_suffice)
 
 
 def keeps(link, contents, event):

@@ -10,13 +10,13 @@ def next_wrong(link, contents):
     """A far run to the next wrong step by which nothing of the worst is missed, of contents that are not harmless."""
     even, done, answers_suffice, _ = signs_of(link, contents)
     if done and not even:
-        return to_twice(link, contents)
+        return to_handed(link, contents)
     # Answers that suffice come first: what is brought ahead of them would set them, or the old copies, aside.
     if not done and answers_suffice:
         bit, heard = contents[0]
         return [([("hear", bit)], link[3] - heard)]
     if even and not done:
-        return to_lost(link, contents)
+        return to_ended(link, contents)
     return to_made(link, contents)
 
 
@@ -32,13 +32,13 @@ def to_made(link, contents):
     return [([bring], link[2] - in_lot(contents, "old"))]
 
 
-def to_twice(link, contents):
+def to_handed(link, contents):
     """The handing out of a new lot, where the bits are unlike."""
     many = link[2] - in_lot(contents, "new")
     return once(making_room(link, contents)) + [([("send",), ("bring", "new")], many)]
 
 
-def to_lost(link, contents):
+def to_ended(link, contents):
     """The end of a turn by new copies, where the bits are alike."""
     bit, heard = contents[0]
     ahead = making_room(link, contents)

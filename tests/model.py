@@ -373,3 +373,126 @@ def kinds_for_ever(link, doubling=False):
                                 found.add(wrong)
                     kinds[number[contents]] = found
     return {contents: sorted(kinds[part[contents]]) for contents in steps}
+
+
+BAD_COUNTS = [value for value in ODD_VALUES if isinstance(value, bool) or not isinstance(value, int) or value < 0]
+BAD_COUNTS += ["1", (1,), -10 ** 29]
+BAD_BOOLEANS = [value for value in ODD_VALUES if not isinstance(value, bool)] + ["True", (True,)]
+BAD_HARMS = [4, 10 ** 20] + BAD_COUNTS
+WRONG_KINDS = ["lost", "made", "twice"]
+BAD_KINDS = ODD_VALUES + ["Lost", "los", "lost ", "right", ["lost"], ("made",)]
+
+
+def some_sound_links(draw):
+    """Sound links of up to 30 figures, tight ones among them."""
+    while True:
+        c, d = [draw.choice([1, 2, 10 ** 29, draw.randint(1, 10 ** 29)]) for _ in range(2)]
+        yield (c, d, c + draw.choice([0, 0, 1, 10 ** 29]), d + draw.choice([0, 0, 1, 10 ** 29]))
+
+
+def in_order(contents):
+    """A key by which contents are in order, None ahead of all lots."""
+    sender, (bit, lot, done), there, back = contents
+    return (sender, (bit, (lot is not None, lot or ()), done), there, back)
+
+
+class Steps:
+    """All steps of all contents of a small link, to look back from where they lead."""
+
+    def __init__(self, link):
+        self.steps, self.plain = {}, {}
+        for contents in all_contents(link):
+            told = [step(link, contents, event) for event in all_events()]
+            self.steps[contents] = [(one[0], one[1], one[2]) for one in told if one is not None]
+        for contents, rows in self.steps.items():
+            for later, wrong, ended in rows:
+                if not wrong and not ended:
+                    self.plain.setdefault(later, []).append(contents)
+
+    def leading(self, into, plain=None):
+        """All contents with a step, for which into(later, wrong, ended) is true, behind steps of no account."""
+        reached = [contents for contents, rows in self.steps.items() if any(into(*row) for row in rows)]
+        seen = set(reached)
+        while reached:
+            for other in (plain or self.plain).get(reached.pop(), []):
+                if other not in seen:
+                    seen.add(other)
+                    reached.append(other)
+        return seen
+
+
+def all_fates(link, most=5):
+    """The fates of all contents of a small link, by going through all steps."""
+    told, ahead = Steps(link), {}
+    for contents, rows in told.steps.items():
+        for later, wrong, _ in rows:
+            if not wrong:
+                ahead.setdefault(later, []).append(contents)
+    found, level = {contents: [[]] for contents in told.steps}, {(): set(told.steps)}
+    while level:
+        longer = {}
+        for fate, those in level.items():
+            for kind in WRONG_KINDS:
+                seen = told.leading(lambda later, wrong, _: wrong == kind and later in those, ahead)
+                if seen and len(fate) < most:
+                    longer[(kind,) + fate] = seen
+        for fate, those in longer.items():
+            for contents in those:
+                found[contents].append(list(fate))
+        level = longer
+    return {contents: sorted(rows) for contents, rows in found.items()}
+
+
+def quiet_ends(link, turns):
+    """A dict of sets of contents: of (many, kind) those that have runs which end so many turns with just one wrong
+    step, of the kind, or with none, for the kind None; all by going through all steps."""
+    told, found = Steps(link), {}
+    for many in range(turns + 1):
+        for kind in [None] + WRONG_KINDS:
+            if many == 0 and kind is None:
+                found[(0, None)] = set(told.steps)
+                continue
+
+            def leads(later, wrong, ended):
+                if wrong is not None and wrong != kind:
+                    return False
+                left = (many - (1 if ended else 0), None if wrong else kind)
+                return left != (many, kind) and later in found.get(left, ())
+
+            found[(many, kind)] = told.leading(leads)
+    return found
+
+
+WORD_LISTS = [
+    [], ["clear"], ["clear", "forget"], ["clear", "forget", "turn"], ["clear", "turn"], ["forget"], ["forget", "turn"],
+    ["turn"],
+]
+
+
+def mended(contents, mending):
+    """The contents behind a mending, word by word, one thing taken out after the other."""
+    (bit, heard), (other, lot, done), there, back = contents
+    there, back = list(there), list(back)
+    for word in mending[0]:
+        if word == "forget":
+            heard = 0
+        elif word == "clear":
+            lot = None
+        else:
+            other, lot = 1 - other, None
+    for place, many in enumerate(mending[1]):
+        wire, at = (there, 1 + place) if place < 2 else (back, place - 2)
+        wire[at] -= many
+    return ((bit, heard), (other, lot, done), tuple(there), tuple(back))
+
+
+def all_mendings(contents, most):
+    """All mendings of contents of at most so much cost, in order."""
+    lying = contents[2][1:] + contents[3]
+    takings = [
+        taking for taking in itertools.product(*[range(min(many, most) + 1) for many in lying]) if sum(taking) <= most]
+    return [(words, taking) for words in WORD_LISTS for taking in takings if len(words) + sum(taking) <= most]
+
+
+def price_of(mending):
+    return len(mending[0]) + sum(mending[1])

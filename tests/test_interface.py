@@ -34,6 +34,24 @@ INTERFACE = {
     "doubling": (
         "behind_doubling(link, contents, event); is_doubling_endless(link, contents, value); "
         "doubling_run(link, contents)"),
+    "fates": (
+        "fates(link, contents); is_fate(link, contents, value); firsts(link, contents); "
+        "most_of(link, contents, kind); fates_behind(link, contents, event); fate_run(link, contents, fate); "
+        "is_fate_run(link, contents, fate, value)"),
+    "quiet": (
+        "must(link, contents); quiet_run(link, contents, turns); is_quiet_run(link, contents, turns, value)"),
+    "counting": (
+        "how_many_contents(link); all_contents(link); contents_numbered(link, number); "
+        "number_of_contents(link, contents); next_contents(link, contents); "
+        "how_many_such(link, even, done, enough_answers, enough_old)"),
+    "shares": (
+        "of_harms(link); share_of(link, many); other_done(link, contents); of_harm_numbered(link, many, number); "
+        "number_of_its_harm(link, contents); next_of_harm(link, contents); weight_of(link, contents); "
+        "least_weights(link); mean_harm(link)"),
+    "mending": (
+        "is_mending(link, contents, value); mended(link, contents, mending); cost_of(link, contents, mending); "
+        "mending_cost(link, contents, most); greatest_cost(link, most); cheapest_mendings(link, contents, most); "
+        "is_cheapest(link, contents, most, value); dearer_events(link, contents)"),
 }
 
 
