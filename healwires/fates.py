@@ -7,11 +7,11 @@ from healwires.harm import need_sound_contents, signs_of
 from healwires.moves import moved, wrong_between
 from healwires.runs import far_gone, wrongs_of
 from healwires.steps import need_possible
-from healwires.worst import in_lot, making_room, once, to_ended, to_made, to_handed
+from healwires.worst import in_lot, making_room, once, to_ended, to_handed, to_made
 
 KINDS = ("lost", "made", "twice")
-# For contents that are even or not, done or not: the fates that no fate goes on from, which they have always, those
-# that they have if answers suffice, if old copies suffice, if both do.
+# By even and done, the fates of which all others are beginnings: those that there always are, those that there are if
+# answers suffice, if old copies suffice, if both do.
 WHOLES = {
     (False, False): ((), (("lost", "lost"), ("lost", "made")), (("made", "lost"),), ()),
     (True, True): ((), (), (("made", "twice"),), (("made", "lost"), ("made", "made"))),

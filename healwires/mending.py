@@ -60,7 +60,7 @@ def taking_of(contents, copies, answers):
 
 
 def takings_of(link, contents):
-    """The cheapest takings behind which answers suffice or do not, as far as can be, and old copies likewise."""
+    """The cheapest takings behind which answers suffice or do not, as far as can be, old copies likewise; in order."""
     answered, copied = surplus(link, contents)
     return [
         taking_of(contents, copies, answers)
@@ -69,7 +69,7 @@ def takings_of(link, contents):
 
 
 def mendings_to(link, contents, most):
-    """The cheapest mendings by each list of words and to all signs behind which the harm is so much at most.
+    """The cheapest mendings by each list of words and to all signs behind which the harm is so much at most, in order.
 
     Whatever takes out more, or something else, has the same signs behind it, and costs more.
     """
@@ -94,8 +94,9 @@ def least_cost(link, contents, most):
 
 def cheapest_of(link, contents, most):
     """The mendings of the least cost of what is known to be contents of a sound link, in order."""
-    least = least_cost(link, contents, most)
-    return sorted([mending for mending in mendings_to(link, contents, most) if price_of(mending) == least])
+    found = mendings_to(link, contents, most)
+    least = min([price_of(mending) for mending in found])
+    return [mending for mending in found if price_of(mending) == least]
 
 
 def need_most(most):

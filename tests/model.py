@@ -496,3 +496,94 @@ def all_mendings(contents, most):
 
 def price_of(mending):
     return len(mending[0]) + sum(mending[1])
+
+
+def seen(contents):
+    """The view in which all is seen."""
+    (bit, heard), (other, lot, _), (new, zeros, ones), back = contents
+    there = [zeros, ones]
+    there[bit] += new
+    return ((bit, heard), (other, lot[1] if lot else 0), tuple(there), back)
+
+
+def look_alike(view, contents):
+    return all(one is None or one == told for one, told in zip(view, seen(contents)))
+
+
+def all_views(link):
+    """All views of a small link."""
+    c, d, p, q = link
+    senders = [None] + list(itertools.product((0, 1), range(q)))
+    receivers = [None] + list(itertools.product((0, 1), range(p)))
+    return list(itertools.product(senders, receivers, [None] + counts_up_to(2, c), [None] + counts_up_to(2, d)))
+
+
+# For the link (3, 2, 4, 4).
+BAD_VIEWS = ODD_VALUES + [
+    [None, None, None, None], (None, None, None), (None,) * 5, ((0, 4), None, None, None), ((0, -1), None, None, None),
+    ((2, 0), None, None, None), ((True, 0), None, None, None), ((0, False), None, None, None),
+    ([0, 0], None, None, None), ((0,), None, None, None), ((0, 0, 0), None, None, None), (0, None, None, None),
+    (None, (0, 4), None, None), (None, (0, -1), None, None), (None, (2, 1), None, None), (None, (False, 1), None, None),
+    (None, (0, True), None, None), (None, [0, 1], None, None), (None, (0, None), None, None),
+    (None, (0, ("old", 1)), None, None), (None, (0, 1, False), None, None), (None, None, (2, 2), None),
+    (None, None, (-1, 2), None), (None, None, (True, 2), None), (None, None, [1, 2], None), (None, None, (1,), None),
+    (None, None, (1, 1, 1), None), (None, None, None, (2, 1)), (None, None, None, (0, -1)),
+    (None, None, None, (0, True)), (None, None, None, [0, 1]), (None, None, None, (0, 1, 0)),
+    (None, None, None, "01"), ((0, 0), (0, None), (0, 0), (0, 0)), (False, None, None, None),
+]
+
+
+KINDS_OF_FAULTS = ["copy", "answer", "turn", "swap", "sender", "receiver", "heard", "lot"]
+
+
+def all_faults(link):
+    """All faults of a small link, in order, of all numbers that can befall its contents."""
+    c, d, p, q = link
+    found = [(kind, bit) for kind in ("copy", "answer", "swap") for bit in (0, 1)]
+    found += [("turn", name) for name in ("new", "zero", "one")] + [("sender",), ("receiver",)]
+    found += [("heard", many) for many in range(q)] + [("lot", many) for many in range(p)]
+    return sorted(found)
+
+
+def befallen(link, contents, fault):
+    """The contents behind a fault, None if it can't befall them; row by row from the table."""
+    c, d, p, q = link
+    (bit, heard), (other, lot, done), (new, zeros, ones), (nays, yeas) = contents
+    there, back = {"new": new, "zero": zeros, "one": ones}, {0: nays, 1: yeas}
+    kind, what = fault[0], fault[-1]
+    if kind == "copy":
+        if sum(there.values()) >= c:
+            return None
+        there[("zero", "one")[what]] += 1
+    elif kind == "answer":
+        if sum(back.values()) >= d:
+            return None
+        back[what] += 1
+    elif kind == "turn":
+        if there[what] == 0:
+            return None
+        there[what] -= 1
+        borne = bit if what == "new" else BIT_OF_OLD[what]
+        there[("one", "zero")[borne]] += 1
+    elif kind == "swap":
+        if back[what] == 0:
+            return None
+        back[what] -= 1
+        back[1 - what] += 1
+    elif kind == "sender":
+        there[("zero", "one")[bit]] += there["new"]
+        there["new"], bit = 0, 1 - bit
+        if lot:
+            lot = ("old", lot[1])
+    elif kind == "receiver":
+        other, lot = 1 - other, None
+    elif kind == "heard":
+        if what >= q:
+            return None
+        heard = what
+    else:
+        if what >= p:
+            return None
+        lot = ("old", what) if what else None
+    there = (there["new"], there["zero"], there["one"])
+    return ((bit, heard), (other, lot, done), there, (back[0], back[1]))

@@ -52,6 +52,18 @@ INTERFACE = {
         "is_mending(link, contents, value); mended(link, contents, mending); cost_of(link, contents, mending); "
         "mending_cost(link, contents, most); greatest_cost(link, most); cheapest_mendings(link, contents, most); "
         "is_cheapest(link, contents, most, value); dearer_events(link, contents)"),
+    "taking": (
+        "taking_cost(link, contents, most); how_many_takings(link, contents, most); harm_by_words(link, contents); "
+        "words_for(link, contents, most)"),
+    "views": (
+        "is_view(link, value); view_of(link, contents); covered(link, view, places); "
+        "looks_so(link, contents, view); looking_so(link, view); how_many_look_so(link, view)"),
+    "unseen": (
+        "seen_harms(link, view); least_harm(link, view); greatest_harm(link, view); worst_look(link, view); "
+        "best_look(link, view); worth_looking(link, contents, view)"),
+    "faults": (
+        "is_fault(value); can_befall(link, contents, value); befallen(link, contents, fault); "
+        "faults_of(link, contents); rise(link, contents, fault); worth(link, kind); worst_fault(link, contents)"),
 }
 
 
