@@ -2,8 +2,9 @@
 
 from healwires.contents import is_count, need_contents, need_link
 from healwires.errors import InvalidNumber, TooMany
+from healwires.followers import next_one
 from healwires.looks import MOST_LISTED, NOTHING_SEEN, all_looking, answered_pair, how_many_look, kept_pair
-from healwires.ranks import ALL_HARMS, next_one, number_ahead, numbered
+from healwires.ranks import ALL_HARMS, number_ahead, numbered
 from healwires.ways import of_pair
 
 

@@ -5,6 +5,12 @@ from healwires.errors import InvalidNumber
 from healwires.moves import moved, wrong_between
 from healwires.steps import events_of, need_possible
 
+# By even, then by done: the harm if neither suffices, if old copies alone do, if answers alone do, if both do.
+HARMS = (
+    ((0, 2, 2, 2), (1, 1, 1, 1)),
+    ((1, 1, 1, 3), (0, 2, 0, 2)),
+)
+
 
 def answers_of(contents):
     """What the sender has heard and the answers of its bit in the wire back, together."""
@@ -27,13 +33,7 @@ def signs_of(link, contents):
 
 def harm_by(even, done, answers_suffice, old_suffice):
     """The harm of all contents of sound links that have these four signs."""
-    if even and done:
-        return 2 if old_suffice else 0
-    if even:
-        return 3 if answers_suffice and old_suffice else 1
-    if done:
-        return 1
-    return 2 if answers_suffice or old_suffice else 0
+    return HARMS[even][done][2 * answers_suffice + old_suffice]
 
 
 def harm_of(link, contents):

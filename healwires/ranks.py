@@ -2,13 +2,15 @@
 
 Contents are taken apart into ten numbers: the sender's bit, what it heard; the receiver's bit, the place of its lot
 among those that it can have, done; the counts there; the counts back. How many contents have the same first ones and
-a lesser next one is told by binomial coefficients; so each number is found by halving what it may be.
+a lesser next one is told by binomial coefficients, from two weights (rest, enough): with how many ways of all else a
+way of what is counted makes contents of a wanted harm, if it does not suffice, and if it does.
 """
 
-from healwires.ways import EITHER, bare_lots, heard_pair, lots_pair, ways, with_harms
+from healwires.halving import part_within
+from healwires.harm import HARMS
+from healwires.ways import EITHER, bare_lots, heard_pair, lots_pair, ways
 
 ALL_HARMS = (0, 1, 2, 3)
-PARTS = 10
 
 
 def taken_apart(link, contents):
@@ -29,114 +31,174 @@ def put_together(link, parts):
     return ((parts[0], parts[1]), (parts[2], lot, parts[4] == 1), parts[5:8], parts[8:])
 
 
-def greatest_part(link, parts):
-    """The greatest number that can be behind some parts."""
-    place = len(parts)
-    if place == 1:
-        return link[3] - 1
-    if place == 3:
-        return bare_lots(link, parts[0] == parts[2]) + link[2] - 2
-    if place > 7:
-        return link[1] - sum(parts[8:])
-    return link[0] - sum(parts[5:]) if place > 4 else 1
+class Finder:
+    """Finds the parts of the contents of which so many are ahead."""
+
+    def __init__(self, number):
+        self.number = number
+
+    def part(self, most, bend, count):
+        """The next part, at most so much, where count tells how many contents have a lesser one."""
+        found = part_within(count, most, bend, self.number) if most > 0 else 0
+        if found > 0:
+            self.number -= count(found)
+        return found
 
 
-def needed_copies(link, parts):
-    """How many old copies in the wire there suffice beside the lot that parts tell."""
-    return link[2] - max(0, parts[3] - bare_lots(link, parts[0] == parts[2]) + 1)
+class Counter:
+    """Counts how many contents are ahead of those with known parts."""
+
+    def __init__(self, parts):
+        self.parts = parts
+        self.place = 0
+        self.number = 0
+
+    def part(self, most, bend, count):
+        """The next part, at most so much, where count tells how many contents have a lesser one."""
+        known = self.parts[self.place]
+        self.place += 1
+        if known > 0:
+            self.number += count(known)
+        return known
 
 
-def wire_pair(counts, below, room, size, place, need):
-    """The pair of the ways of a wire that has some counts as its first ones, and a next one below a number.
+def chances_by(wanted):
+    """Which harms are wanted, in the place of those that HARMS tells."""
+    return [[[many in wanted for many in row] for row in rows] for rows in HARMS]
 
-    It suffices if the count at a place is at least what is needed.
+
+def split(pair):
+    """How many ways of a pair do not suffice, how many do."""
+    return (pair[1] - pair[0], pair[0])
+
+
+def by_answers(row, kept):
+    """The weights of answers, by how many of the lots, and of the wire there, suffice or not."""
+    return (row[0] * kept[0] + row[1] * kept[1], row[2] * kept[0] + row[3] * kept[1])
+
+
+def by_old(row, answered):
+    """The weights of old copies, by how much of what the sender heard, and of the wire back, suffices or not."""
+    return (row[0] * answered[0] + row[2] * answered[1], row[1] * answered[0] + row[3] * answered[1])
+
+
+def added(rows):
+    """The sums of the numbers of two rows."""
+    return [one + other for one, other in zip(rows[0], rows[1])]
+
+
+def weighed(weights, parts):
+    """How many contents there are with so many ways that do not suffice, and so many that do."""
+    return weights[0] * parts[0] + weights[1] * parts[1]
+
+
+def kept_at(link, need):
+    """How many ways of the wire there do not suffice, how many do, where so many old copies are needed."""
+    enough = ways(3, link[0] - need)
+    return (ways(3, link[0]) - enough, enough)
+
+
+def heard_count(link, weights):
+    """The function that tells how many contents with one bit of the sender there are that heard less than a number."""
+    each, more = weights[0] * ways(2, link[1]), weights[1] - weights[0]
+    first = link[1] - link[3] - 1
+    short = ways(3, first)
+    return lambda heard: each * heard + more * (ways(3, first + heard) - short)
+
+
+def lot_count(link, bare, weights):
+    """The function that tells how many contents with three parts there are with a lot ahead of a place.
+
+    Lots that are not old, or none, come first; ahead of each old one there are all old ones of lesser numbers.
     """
-    room, size, further = room - sum(counts), size - len(counts), place - len(counts)
-    total = ways(size, room) - ways(size, room - below)
-    if further < 0:
-        return (total if counts[place] >= need else 0, total)
-    passed = max(need, below) if further == 0 else need + below
-    return (ways(size, room - need) - ways(size, room - passed), total)
+    each, more = weights[0] * ways(3, link[0]), weights[1] - weights[0]
+    first = link[0] - link[2]
+    alone, short = ways(3, first), ways(4, first)
+    return lambda place: each * place + more * (
+        min(bare, place) * alone + ways(4, first + max(0, place - bare)) - short)
 
 
-def answered_by(link, parts, below):
-    """The pair of what the sender heard and of the wire back, with some parts and a lesser next one."""
-    if len(parts) > 7:
-        return wire_pair(parts[8:], below, link[1], 2, parts[0], link[3] - parts[1])
-    first, last = (0, below) if len(parts) == 1 else (parts[1], parts[1] + 1)
-    return heard_pair(link, (1, 2, link[1]), first, last)
+def wire_count(size, room, further, need, weights):
+    """The function that tells how many contents there are with a count below a number, and the others as they can be.
+
+    So many counts of a wire are yet to come, this one first; they suffice if the one that is so much further on is at
+    least what is needed.
+    """
+    rest, more = weights[0], weights[1] - weights[0]
+    total, enough = ways(size, room), ways(size, room - need)
+    if more == 0:
+        return lambda below: rest * (total - ways(size, room - below))
+    if further == 0:
+        return lambda below: (
+            rest * (total - ways(size, room - below)) + more * (enough - ways(size, room - max(need, below)))
+        )
+    return lambda below: (
+        rest * (total - ways(size, room - below)) + more * (enough - ways(size, room - need - below))
+    )
 
 
-def kept_by(link, parts, below):
-    """The pair of the lot and of the wire there, with three parts or more, and a lesser next one."""
-    if len(parts) == 3:
-        bare = min(below, bare_lots(link, parts[0] == parts[2]))
-        return lots_pair(link, (1, 3, link[0]), bare, 1, 1 + below - bare)
-    place, need = 2 - parts[2], needed_copies(link, parts)
-    if len(parts) == 4:
-        return wire_pair((), link[0] + 1, link[0], 3, place, need)
-    if len(parts) < 8:
-        return wire_pair(parts[5:], below, link[0], 3, place, need)
-    return (1 if parts[5 + place] >= need else 0, 1)
+def wire_parts(chooser, shape, need, weights):
+    """The counts of a wire of a shape (size, room, place), which suffices if that at the place is what is needed."""
+    size, room, place = shape
+    parts = ()
+    for at in range(size):
+        bend = need if at == place else room - need + 1
+        part = chooser.part(room, bend, wire_count(size - at, room, place - at, need, weights))
+        if at == place:
+            weight = weights[1] if part >= need else weights[0]
+            weights = (weight, weight)
+        room -= part
+        parts = parts + (part,)
+    return parts
 
 
-def dones_by(parts, below):
-    """What done can be, with some parts and a lesser next one."""
-    if len(parts) == 4:
-        return EITHER[:below]
-    return (parts[4] == 1,) if len(parts) > 4 else EITHER
+def halves_of(link, chances):
+    """The weights of answers with bits that are unlike, and alike, for either bit of the sender."""
+    found = []
+    for even in EITHER:
+        kept = split(lots_pair(link, (1, 3, link[0]), bare_lots(link, even), 1, link[2]))
+        found.append(by_answers(added(chances[even]), kept))
+    return found
 
 
-def ahead(link, wanted, parts, below):
-    """How many contents of wanted harms have some parts as their first ones, and a next one below a number."""
-    if len(parts) == 0:
-        # Mirrored contents have the same harm: so either bit of the sender has as many.
-        return below * ahead(link, wanted, (0,), link[3])
-    answered = answered_by(link, parts, below)
-    if len(parts) > 2:
-        kept = kept_by(link, parts, below)
-        return with_harms(wanted, parts[0] == parts[2], dones_by(parts, below), answered, kept)
-    bits = below if len(parts) == 2 else 2
-    return sum([
-        with_harms(wanted, parts[0] == own, EITHER, answered, every_lot(link, parts[0], own)) for own in range(bits)
-    ])
-
-
-def every_lot(link, sent, own):
-    """The pair of all lots and of the wire there, where sender and receiver have two bits."""
-    return lots_pair(link, (1, 3, link[0]), bare_lots(link, sent == own), 1, link[2])
-
-
-def part_at(link, wanted, parts, number):
-    """The next part of the contents of wanted harms, with some first parts, of which so many are ahead."""
-    low, high = 0, greatest_part(link, parts) + 1
-    while high - low > 1:
-        middle = (low + high) // 2
-        if ahead(link, wanted, parts, middle) <= number:
-            low = middle
-        else:
-            high = middle
-    return low
+def parts_by(link, wanted, chooser):
+    """The ten numbers of contents of wanted harms, as a chooser tells them; None if there are fewer than it wants."""
+    c, d, p, q = link
+    chances = chances_by(wanted)
+    halves = halves_of(link, chances)
+    by_heard = heard_count(link, added(halves))
+    half = by_heard(q)
+    sent = chooser.part(2, 0, lambda below: below * half)
+    if sent == 2:
+        return None
+    heard = chooser.part(q - 1, q - d, by_heard)
+    answered = split(heard_pair(link, (1, 2, d), heard, heard + 1))
+    # Bits that are alike are those of a receiver with 0 beside a sender with 0.
+    with_zero = weighed(halves[1 - sent], answered)
+    own = chooser.part(1, 0, lambda below: below * with_zero)
+    even = sent == own
+    rows = chances[even]
+    bare = bare_lots(link, even)
+    by_lot = lot_count(link, bare, by_old(added(rows), answered))
+    place = chooser.part(bare + p - 2, bare + p - c - 1, by_lot)
+    need = p - max(0, place - bare + 1)
+    with_undone = weighed(by_old(rows[0], answered), kept_at(link, need))
+    done = chooser.part(1, 0, lambda below: below * with_undone)
+    row = rows[done]
+    there = wire_parts(chooser, (3, c, 2 - own), need, by_old(row, answered))
+    old = 1 if there[2 - own] >= need else 0
+    back = wire_parts(chooser, (2, d, sent), q - heard, (row[old], row[2 + old]))
+    return (sent, heard, own, place, done) + there + back
 
 
 def numbered(link, wanted, number):
     """The contents of wanted harms of which so many are ahead, None if there are not so many."""
-    if number >= ahead(link, wanted, (), 2):
-        return None
-    parts = ()
-    for _ in range(PARTS):
-        part = part_at(link, wanted, parts, number)
-        number -= ahead(link, wanted, parts, part)
-        parts = parts + (part,)
-    return put_together(link, parts)
+    parts = parts_by(link, wanted, Finder(number))
+    return None if parts is None else put_together(link, parts)
 
 
 def number_ahead(link, wanted, contents):
     """How many contents of wanted harms are ahead of some contents."""
-    parts = taken_apart(link, contents)
-    return sum([ahead(link, wanted, parts[:place], part) for place, part in enumerate(parts)])
-
-
-def next_one(link, wanted, contents):
-    """The next contents of wanted harms behind some that are of one of them, None behind the last."""
-    return numbered(link, wanted, number_ahead(link, wanted, contents) + 1)
+    counter = Counter(taken_apart(link, contents))
+    parts_by(link, wanted, counter)
+    return counter.number

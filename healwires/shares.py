@@ -3,9 +3,10 @@
 from healwires.contents import is_count, need_contents, need_link, need_sound
 from healwires.counting import need_number
 from healwires.errors import InvalidNumber
+from healwires.followers import next_one
 from healwires.harm import harm_of, need_sound_contents
 from healwires.looks import NOTHING_SEEN, harms_seen
-from healwires.ranks import next_one, number_ahead, numbered
+from healwires.ranks import number_ahead, numbered
 from healwires.ways import in_lowest_terms
 
 

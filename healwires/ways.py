@@ -5,26 +5,16 @@ sender's bit. A shape (times, size, room) tells how free it is: it is at least s
 much) ways. A pair (enough, total) tells of ways of a wire and the memory beside it how many suffice, of how many.
 """
 
-from math import gcd
+from math import comb, gcd
 
 from healwires.harm import harm_by
 
 EITHER = (False, True)
 
 
-def choose(many, size):
-    """The number of sets of so many things among many: the binomial coefficient."""
-    if many < size:
-        return 0
-    found = 1
-    for taken in range(size):
-        found = found * (many - taken) // (taken + 1)
-    return found
-
-
 def ways(size, room):
     """The number of tuples of so many counts that are at most so much together."""
-    return choose(room + size, size)
+    return comb(room + size, size) if room >= 0 else 0
 
 
 def at_least(shape, least):

@@ -12,12 +12,12 @@ FORMS = (
     "Module Expr Constant ImportFrom alias FunctionDef arguments arg ClassDef Assign AugAssign Name Load Store "
     "Attribute Subscript Slice Tuple List Dict Call keyword Return Raise If For While Break Continue Pass IfExp BoolOp "
     "And Or UnaryOp Not USub BinOp Add Sub Mult FloorDiv Mod Compare Eq NotEq Lt LtE Gt GtE Is IsNot In NotIn "
-    "ListComp comprehension JoinedStr FormattedValue"
+    "ListComp comprehension JoinedStr FormattedValue Lambda LShift"
 ).split()
 CALLED = (
     "len range enumerate zip min max sum abs sorted reversed int str bool list tuple dict isinstance any all"
 ).split()
-METHODS = "append extend index count get split partition join".split()
+METHODS = "append extend index count get split partition join bit_length part".split()
 LIBRARY = {"heapq", "math", "itertools", "collections"}
 BARRED = (
     "register mro elements open input law version_info with_traceback add_note attrgetter breakpoint builtins compile "
