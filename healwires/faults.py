@@ -85,6 +85,15 @@ def rise_of(link, contents, fault):
     return harm_of(link, behind_fault(contents, fault)) - harm_of(link, contents)
 
 
+def worth_of(link, kind):
+    """The worth of what is known to be a kind of faults."""
+    if kind == "sender":
+        return 3
+    if kind == "receiver":
+        return 1
+    return 0 if (kind == "heard" and link[3] == 1) or (kind == "lot" and link[2] == 1) else 2
+
+
 def need_befalling(link, contents, fault):
     """Refuse what is no link, no contents of it, no fault that can befall them, in this order."""
     need_contents(link, contents)
@@ -137,11 +146,7 @@ def worth(link, kind):
     if kind not in KINDS:
         raise InvalidEvent(kind)
     need_sound(link)
-    if kind == "sender":
-        return 3
-    if kind == "receiver":
-        return 1
-    return 0 if (kind == "heard" and link[3] == 1) or (kind == "lot" and link[2] == 1) else 2
+    return worth_of(link, kind)
 
 
 def worst_fault(link, contents):

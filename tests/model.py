@@ -587,3 +587,153 @@ def befallen(link, contents, fault):
         lot = ("old", what) if what else None
     there = (there["new"], there["zero"], there["one"])
     return ((bit, heard), (other, lot, done), there, (back[0], back[1]))
+
+
+def is_fault_item(item):
+    return isinstance(item[0], str)
+
+
+def walk_faulty(link, contents, items):
+    """(contents, wrong steps, faults as tuples (contents ahead, contents behind), what comes) of a faulty run.
+
+    What comes is a list of "fault", "lot" and "turn", in the order in which they do. None if it is none.
+    """
+    wrongs, faults, come = [], [], []
+    for item in items:
+        if is_fault_item(item):
+            later = befallen(link, contents, item)
+            if later is None:
+                return None
+            faults.append((contents, later))
+            come.append("fault")
+            contents = later
+            continue
+        ahead = len(come)
+        for _ in range(item[1]):
+            for event in item[0]:
+                told = step(link, contents, event)
+                if told is None:
+                    return None
+                contents, wrong, ended, handed = told
+                wrongs += [wrong] if wrong else []
+                come += ["turn"] * ended + ["lot"] * handed
+        if come[ahead:].count("turn") > 1 or come[ahead:].count("lot") > 1:
+            return None
+    return (contents, wrongs, faults, come)
+
+
+def some_items(link, contents, draw, most, kinds=None):
+    """A faulty run of contents of a small link, drawn; with faults of some kinds."""
+    items = []
+    for _ in range(draw.randint(0, most)):
+        if draw.random() < 0.3:
+            found = [fault for fault in all_faults(link) if befallen(link, contents, fault) is not None]
+            found = [fault for fault in found if kinds is None or fault[0] in kinds]
+            item = draw.choice(found) if found else ([("send",)], 0)
+        else:
+            events, now = [], contents
+            for _ in range(draw.randint(1, 4)):
+                found = [event for event in all_events() if step(link, now, event)]
+                # Few drops and misses, so that something comes of what is sent.
+                found = [event for event in found if event[0] not in ("drop", "miss")] or found
+                if found:
+                    events.append(draw.choice(found))
+                    now = step(link, now, events[-1])[0]
+            item = (events, draw.choice([1, 1, 1, 2, 3])) if events else ([("send",)], 0)
+        told = walk_faulty(link, contents, [item])
+        if told is not None:
+            items.append(item)
+            contents = told[0]
+    return items
+
+
+BAD_FAULTY = [value for value in BAD_FARS if value not in ([("send",)], [([("send",)], 1), None])] + [
+    [("send",)], ("sender",), ["sender"], [("sender",), None], [("sender", 0)], [("copy", 2)], [("copy", True)],
+    [["copy", 0]], [("turn", 0)], [("heard", -1)], [("lot", "1")], [("sender",), ([("send",)], True)], [("lost",)],
+]
+BAD_KINDS_OF_FAULTS = ODD_VALUES + ["Copy", "lost", "sender ", ["sender"], ("sender",)]
+BAD_LISTS_OF_KINDS = [value for value in ODD_VALUES if value != []] + [
+    "copy", ("copy",), ["copy", "send"], [["copy"]], ["copy", None], [("sender",)], [0], ["copy", True],
+]
+
+
+def shortest(link):
+    """For all contents of a small link: the least numbers of events to the end of a turn, to a right handing out."""
+    ahead, found = {}, ({}, {})
+    for contents in all_contents(link):
+        for event in all_events():
+            told = step(link, contents, event)
+            if told is None:
+                continue
+            comes = (told[2], told[3] and event[1] == "new" and told[1] is None)
+            for least, come in zip(found, comes):
+                if come:
+                    least[contents] = 1
+            ahead.setdefault(told[0], []).append((contents,) + comes)
+    for place, least in enumerate(found):
+        front = list(least)
+        while front:
+            further = []
+            for contents in front:
+                for row in ahead.get(contents, ()):
+                    if not row[1 + place] and row[0] not in least:
+                        least[row[0]] = least[contents] + 1
+                        further.append(row[0])
+            front = further
+    return found
+
+
+def shortest_runs(link, contents, least, place, most=40):
+    """The first ones, in order, so many at most, of the shortest runs; to the end of a turn, or to a handing out."""
+    found, work = [], [([], contents)]
+    while work and len(found) < most:
+        run, now = work.pop()
+        for event in reversed(all_events()):
+            told = step(link, now, event)
+            if told is None:
+                continue
+            come = told[2] if place == 0 else told[3] and event[1] == "new" and told[1] is None
+            if come and least[now] == 1:
+                work.append((run + [event], None))
+            elif not come and least[told[0]] == least[now] - 1:
+                work.append((run + [event], told[0]))
+        while work and work[-1][1] is None:
+            found.append(work.pop()[0])
+    return found[:most]
+
+
+def some_web(draw, links, most=5):
+    """A web with a few ways, drawn; at times without any, with two hosts in both directions, or with great numbers."""
+    hosts = draw.choice([1, 2, 3, 3, 4, 5, 10 ** 29])
+    pairs = [(one, other) for one in range(min(hosts, 6)) for other in range(min(hosts, 6)) if one != other]
+    pairs = sorted(draw.sample(pairs, min(len(pairs), draw.randint(0, most))))
+    return (hosts, [(one, other, draw.choice(links)) for one, other in pairs])
+
+
+def some_web_run(web, contents, draw, many):
+    """A web run of contents, drawn: more sendings, bringings and hearings than what only loses."""
+    run, now = [], list(contents)
+    for _ in range(many if web[1] else 0):
+        number = draw.randrange(len(web[1]))
+        link = web[1][number][2]
+        found = [event for event in all_events() if step(link, now[number], event)]
+        lively = [event for event in found if event[0] not in ("drop", "miss")]
+        event = draw.choice(lively if lively and draw.random() < 0.9 else found)
+        now[number] = step(link, now[number], event)[0]
+        run.append((number, event))
+    return run
+
+
+ONE = (1, 1, 1, 1)
+BAD_WEBS = ODD_VALUES + [
+    [3, [(0, 1, ONE)]], (3, ((0, 1, ONE),)), (3, [[0, 1, ONE]]), (3, [(0, 1)]), (3, [(0, 1, ONE, ONE)]), (0, []),
+    (-1, []), (True, []), ("3", []), (3, None), (3, [None]), (3, [(0, 3, ONE)]), (3, [(3, 0, ONE)]),
+    (3, [(0, -1, ONE)]), (3, [(0, True, ONE)]), (3, [(False, 1, ONE)]), (3, [(0, 0, ONE)]), (3, [(0, 1, (1, 1, 1, 0))]),
+    (3, [(0, 1, (True, 1, 1, 1))]), (3, [(0, 1, list(ONE))]), (3, [(0, 1, ONE), (0, 1, ONE)]),
+    (3, [(0, 1, ONE), (0, 1, (2, 1, 2, 1))]), (3, [(1, 2, ONE), (0, 1, ONE)]), (3, [(0, 2, ONE), (0, 1, ONE)]),
+    (1, [(0, 1, ONE)]), (3, [], []), (3,), (3, {}), ([], 3),
+]
+
+
+def is_whole_number(value):
+    return isinstance(value, int) and not isinstance(value, bool)

@@ -64,6 +64,24 @@ INTERFACE = {
     "faults": (
         "is_fault(value); can_befall(link, contents, value); befallen(link, contents, fault); "
         "faults_of(link, contents); rise(link, contents, fault); worth(link, kind); worst_fault(link, contents)"),
+    "budgets": (
+        "is_faulty_run(link, contents, value); faulty_after(link, contents, items); "
+        "faulty_wrong(link, contents, items); budget(link, contents, items); most_wrong(link, contents, kinds); "
+        "worst_faulty(link, contents, kinds); is_worst_faulty(link, contents, kinds, value)"),
+    "spare": (
+        "spare(link); is_forgiven(link, value); unforgiven(link, kind); is_unforgiven(link, kind, value)"),
+    "times": (
+        "least_turn(link, contents); least_right(link, contents); turn_run(link, contents); "
+        "right_run(link, contents); is_turn_run(link, contents, value); is_right_run(link, contents, value)"),
+    "rates": (
+        "turn_cost(link); most_right(link, many); events_for(link, letters); busy_run(link, letters); "
+        "is_busy_run(link, letters, value); rate_of(link, contents, far)"),
+    "webs": (
+        "is_web(value); are_web_contents(web, value); can_go_web(web, contents, value); "
+        "web_after(web, contents, run); web_wrong_steps(web, contents, run); part_of(web, contents, run, number); "
+        "by_ways(web, contents, run); web_harm(web, contents); harm_at(web, contents, host); "
+        "ways_by_harm(web, contents); web_mending_cost(web, contents, most); web_mendings(web, contents, most); "
+        "are_web_mendings(web, contents, most, value)"),
 }
 
 

@@ -17,7 +17,7 @@ FORMS = (
 CALLED = (
     "len range enumerate zip min max sum abs sorted reversed int str bool list tuple dict isinstance any all"
 ).split()
-METHODS = "append extend index count get split partition join bit_length part".split()
+METHODS = "append extend index count get split partition join bit_length part items".split()
 LIBRARY = {"heapq", "math", "itertools", "collections"}
 BARRED = (
     "register mro elements open input law version_info with_traceback add_note attrgetter breakpoint builtins compile "
