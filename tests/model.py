@@ -5,6 +5,7 @@ import itertools
 import random
 
 from healwires.errors import InvalidNumber
+from healwires.live import LiveLink
 
 BIT_OF_OLD = {"zero": 0, "one": 1}
 
@@ -151,7 +152,7 @@ def deep(levels):
 ODD_VALUES = [
     None, True, False, 0, 1, 2, -1, 10 ** 29, "", "send", "zero", "3 2 4 4", [], (), {}, [()], ((),), {"send": 1},
     [None], (None,), ("send", "send"), (("send",),), deep(29), InvalidNumber(3), ((), (), (), ()), (1, 1, 1),
-    [1, 1, 1, 1],
+    [1, 1, 1, 1], LiveLink((1, 1, 1, 1), ((0, 0), (1, None, False), (0, 0, 0), (0, 0))),
 ]
 BAD_LINKS = ODD_VALUES + [
     (0, 1, 1, 1), (1, 0, 1, 1), (1, 1, 0, 1), (1, 1, 1, 0), (1, 1, 1, -1), (True, 1, 1, 1), (1, 1, 1, True),
@@ -258,7 +259,11 @@ def expect(case, function, names, args, error, value):
 
 
 def told(value):
-    """What a value shows; errors have no == of their own."""
+    """What a value shows; errors have no == of their own, and live links show nothing by themselves."""
+    if isinstance(value, LiveLink):
+        return "live " + told([value.link(), value.contents(), value.log()])
+    if isinstance(value, (list, tuple)):
+        return value.__class__.__name__ + "(" + ", ".join(told(one) for one in value) + ")"
     return repr(value)
 
 
@@ -737,3 +742,92 @@ BAD_WEBS = ODD_VALUES + [
 
 def is_whole_number(value):
     return isinstance(value, int) and not isinstance(value, bool)
+
+
+def word_step(link, words, event):
+    """(words, mark, turn ended) behind an event of words, None if it is not possible; the new turn's letter is None.
+
+    A mark is None, or a tuple of what came of a letter and of the letter.
+    """
+    c, d, p, q = link
+    (bit, letter, heard), (other, lot, done), there, back = words
+    there, back, mark, ended = list(there), list(back), None, False
+    word = event[0]
+    if word == "send":
+        if len(there) == c:
+            return None
+        there.append((bit, letter))
+    elif word in ("drop", "bring"):
+        if event[1] not in there:
+            return None
+        there.remove(event[1])
+    else:
+        if back[event[1]] == 0:
+            return None
+        back[event[1]] -= 1
+    if word == "bring":
+        borne, told = event[1]
+        if borne == other:
+            lot = None
+        else:
+            lot = (told, lot[1] + 1 if lot and lot[0] == told else 1)
+            if lot[1] == p:
+                if event[1] != (bit, letter):
+                    mark = ("made", told)
+                elif done:
+                    mark = ("twice", told)
+                else:
+                    mark, done = ("right", told), True
+                other, lot = borne, None
+        if borne == other and sum(back) < d:
+            back[borne] += 1
+    if word == "hear" and event[1] == bit:
+        heard += 1
+        if heard == q:
+            mark = None if done else ("lost", letter)
+            bit, letter, heard, done, ended = 1 - bit, None, 0, False, True
+    return (((bit, letter, heard), (other, lot, done), sorted(there), tuple(back)), mark, ended)
+
+
+def with_letter(words, letter):
+    """Word contents at the beginning of a turn, with its letter."""
+    return ((words[0][0], letter, words[0][2]),) + words[1:]
+
+
+def all_copies(letters):
+    return [(bit, letter) for bit in (0, 1) for letter in letters]
+
+
+def all_word_events(letters):
+    copies = all_copies(letters)
+    found = [(word, copy) for word in ("drop", "bring") for copy in copies]
+    return sorted([("send",)] + found + [(word, bit) for word in ("miss", "hear") for bit in (0, 1)])
+
+
+def all_words(link, letters):
+    """All word contents of a small link over some letters."""
+    c, d, p, q = link
+    found = []
+    lots = [None] + [(letter, many) for letter in letters for many in range(1, p)]
+    wires = [list(wire) for many in range(c + 1) for wire in itertools.combinations_with_replacement(
+        all_copies(letters), many)]
+    for bit, letter, heard, other, lot, done in itertools.product(
+            (0, 1), letters, range(q), (0, 1), lots, (False, True)):
+        for there, back in itertools.product(wires, counts_up_to(2, d)):
+            found.append(((bit, letter, heard), (other, lot, done), there, back))
+    return found
+
+
+def some_words(link, draw, letters):
+    """Any word contents of a link, drawn."""
+    c, d, p, q = link
+    there = sorted(draw.choice(all_copies(letters)) for _ in range(draw.choice([0, c, draw.randint(0, c)])))
+    one = draw.randint(0, d)
+    back = [one, draw.choice([0, d - one, draw.randint(0, d - one)])]
+    draw.shuffle(back)
+    lot = None
+    if p > 1 and draw.random() < 0.6:
+        lot = (draw.choice(letters), draw.choice([p - 1, draw.randint(1, p - 1)]))
+    return (
+        (draw.randint(0, 1), draw.choice(letters), draw.choice([0, q - 1, draw.randint(0, q - 1)])),
+        (draw.randint(0, 1), lot, draw.random() < 0.5), there, tuple(back))

@@ -2,6 +2,7 @@
 
 import importlib
 import inspect
+import pathlib
 import unittest
 
 INTERFACE = {
@@ -82,7 +83,29 @@ INTERFACE = {
         "by_ways(web, contents, run); web_harm(web, contents); harm_at(web, contents, host); "
         "ways_by_harm(web, contents); web_mending_cost(web, contents, most); web_mendings(web, contents, most); "
         "are_web_mendings(web, contents, most, value)"),
+    "rows": (
+        "is_row(web, value); how_many_given(web, contents, row, run); handed_along(web, contents, row, run); "
+        "row_faults(web, contents, row, run); still_held(web, contents, row, run)"),
+    "words": (
+        "is_word_contents(link, value); word_events(link, words); word_run(link, words, given, events); "
+        "greatest_old(link, words); word_harm(link, words); least_apart(due, handed); explained(due, handed); "
+        "is_explained(due, handed, value); word_worst(link, words); is_word_worst(link, words, value)"),
+    "odd": (
+        "is_odd(link, contents); odd_between(link, contents, other); freeing_events(link, contents); "
+        "freed(link, contents, far)"),
+    "settling": (
+        "settled_by(link, contents); unsettled_run(link, contents); is_unsettled_run(link, contents, value); "
+        "two_turn_wrongs(link, contents); two_turn_run(link, contents, many); "
+        "is_two_turn_run(link, contents, many, value); lies_in(link, contents, other); cheapest_sound(places, back); "
+        "price(places, back)"),
+    "live": "is_deed(live, value)",
 }
+METHODS = (
+    "link(); contents(); told(); do(deed); undo(); redo(); log(); copy(); wrongs(); turns(); faults(); harm_now(); "
+    "harm_after(deed); is_safe()")
+ERRORS = (
+    "WireError InvalidNumber InvalidLink InvalidContents InvalidEvent InvalidRun InvalidBit InvalidView InvalidWeb "
+    "InvalidWords InvalidText InvalidDeed Unlike TooMany NothingToUndo NothingToRedo")
 
 
 class Interface(unittest.TestCase):
@@ -93,6 +116,34 @@ class Interface(unittest.TestCase):
                 function = getattr(module, entry.partition("(")[0])
                 self.assertEqual(function.__name__ + str(inspect.signature(function)), entry)
                 self.assertEqual(function.__module__, module.__name__)
+
+    def test_the_methods_of_a_live_link(self):
+        module = importlib.import_module("healwires.live")
+        self.assertEqual(str(inspect.signature(module.LiveLink)), "(link, start)")
+        self.assertEqual(module.LiveLink.__module__, "healwires.live")
+        for entry in METHODS.split("; "):
+            name, _, rest = entry.partition("(")
+            method = vars(module.LiveLink)[name]
+            wanted = "(self)" if rest == ")" else "(self, " + rest
+            self.assertEqual(str(inspect.signature(method)), wanted)
+
+    def test_errors(self):
+        module = importlib.import_module("healwires.errors")
+        for name in ERRORS.split():
+            self.assertEqual(getattr(module, name).__module__, "healwires.errors")
+
+    def test_all_that_the_document_lists(self):
+        """The names of the last section, where the document lies beside the repository."""
+        document = pathlib.Path(__file__).parents[2] / "shared" / "DOC.md"
+        if not document.exists():
+            self.skipTest("no document")
+        rows = document.read_text().partition("# The interface")[2].splitlines()
+        rows = [row.split("|")[1:3] for row in rows if row.startswith("| healwires.")]
+        told = {name.strip().partition(".")[2]: entries.strip().replace("`", "") for name, entries in rows}
+        self.assertEqual(told.pop("errors").split(", "), ERRORS.split())
+        self.assertEqual(told.pop("live"), "LiveLink(link, start): " + METHODS.replace("; ", ", ") + "; "
+                         + INTERFACE["live"])
+        self.assertEqual(told, {name: INTERFACE[name] for name in INTERFACE if name != "live"})
 
 
 if __name__ == "__main__":

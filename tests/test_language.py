@@ -17,7 +17,8 @@ FORMS = (
 CALLED = (
     "len range enumerate zip min max sum abs sorted reversed int str bool list tuple dict isinstance any all"
 ).split()
-METHODS = "append extend index count get split partition join bit_length part items".split()
+METHODS = "append extend index count get split partition join bit_length items pop".split()
+DOUBLE = ("__init__", "__eq__")
 LIBRARY = {"heapq", "math", "itertools", "collections"}
 BARRED = (
     "register mro elements open input law version_info with_traceback add_note attrgetter breakpoint builtins compile "
@@ -70,7 +71,7 @@ class Language(unittest.TestCase):
                     self.assertEqual(node.decorator_list, [], path)
                 if isinstance(node, ast.FunctionDef):
                     self.assertLessEqual(node.end_lineno - node.lineno + 1, 40, (path.name, node.name))
-                    self.assertTrue(ast.get_docstring(node) or node.name == "__init__", (path.name, node.name))
+                    self.assertTrue(ast.get_docstring(node) or node.name in DOUBLE, (path.name, node.name))
                 if isinstance(node, ast.Constant):
                     self.assertNotIsInstance(node.value, float)
                     self.assertNotIn("\x25", str(node.value))
@@ -118,7 +119,7 @@ class Language(unittest.TestCase):
             imported = [one.name for node in tree.body if isinstance(node, ast.ImportFrom) for one in node.names]
             classes = [node.name for node in tree.body if isinstance(node, ast.ClassDef)]
             for name in assigned(tree):
-                if name == "__init__":
+                if name in DOUBLE:
                     continue
                 self.assertFalse(hasattr(builtins, name), (path.name, name))
                 self.assertNotIn(name, BARRED + imported, path.name)
@@ -127,6 +128,8 @@ class Language(unittest.TestCase):
             self.assertFalse(set(inner) & set(classes), path.name)
 
     def test_calls(self):
+        classes = [node for _, tree in trees() for node in tree.body if isinstance(node, ast.ClassDef)]
+        own = [node.name for one in classes for node in one.body if isinstance(node, ast.FunctionDef)]
         for path, tree in trees():
             known = assigned(ast.Module(tree.body, []))
             known += [one.name for node in tree.body if isinstance(node, ast.ImportFrom) for one in node.names]
@@ -135,7 +138,7 @@ class Language(unittest.TestCase):
                     self.assertIn(node.func.id, known + CALLED, path.name)
                 elif isinstance(node, ast.Call):
                     self.assertIsInstance(node.func, ast.Attribute)
-                    self.assertIn(node.func.attr, METHODS, path.name)
+                    self.assertIn(node.func.attr, METHODS + own, path.name)
 
     def test_words(self):
         for path, tree in trees():
