@@ -52,7 +52,8 @@ def by_new(link, contents, lack):
     wanted = link[2] - in_lot(contents, "new")
     taken = min(new, wanted)
     dropped = 0
-    if new == 0 and own + other == link[0]:
+    if own + other == link[0]:
+        # There is no new copy, and no room for one.
         dropped = 1
         own -= 1 if other == 0 else 0
     return 2 * wanted - taken + dropped + max(0, lack - (new - taken) - own)
@@ -96,13 +97,14 @@ def by_made(link, contents):
     kept = in_lot(contents, "new")
     lack = max(0, link[2] - kept - new - own)
     least = link[2] - kept + lack
-    if lack > 0 and new == 0 and own + other == link[0]:
+    if lack > 0 and own + other == link[0]:
+        # An old copy has to go; if it would have been of use, one more has to be sent for it.
         least += 1 if other > 0 else 2
     # Or with old ones, while all new ones lie in the wire.
     kept = in_lot(contents, "old")
     lack = max(0, link[2] - kept - new - own)
-    if lack == 0 or new + lack <= link[0]:
-        dropped = max(0, new + lack + other - link[0]) if lack > 0 else 0
+    if new + lack <= link[0]:
+        dropped = max(0, new + lack + other - link[0])
         least = min(least, link[2] - kept + lack + dropped)
     return least
 

@@ -28,7 +28,8 @@ def first_run(link, contents, least_of, is_last):
         for event in events_of(link, contents):
             later = moved(link, contents, event)
             # Behind the last event the least number is that to the next such event, so it tells nothing.
-            if is_last(contents, event, later) if least == 0 else least_of(link, later) == least:
+            belongs = is_last(contents, event, later) if least == 0 else least_of(link, later) == least
+            if belongs:
                 break
         run.append(event)
         contents = later

@@ -115,7 +115,8 @@ def word_events(link, words):
     """The possible events of words, in order, each once."""
     need_words(link, words)
     _, _, there, back = words
-    copies = [copy for place, copy in enumerate(there) if copy not in there[:place]]
+    # They are in order: so equal ones are neighbours.
+    copies = there[:1] + [copy for ahead, copy in zip(there, there[1:]) if copy != ahead]
     bits = [bit for bit, many in enumerate(back) if many > 0]
     found = [(word, copy) for word in ("bring", "drop") for copy in copies]
     found.extend([(word, bit) for word in ("hear", "miss") for bit in bits])

@@ -238,7 +238,8 @@ class Live(unittest.TestCase):
         self.assertTrue(live == other)
         self.assertFalse(live == LiveLink((1, 1, 1, 2), REST))
         self.assertFalse(LiveLink((1, 1, 1, 2), REST) == LiveLink((1, 1, 1, 1), REST))
-        for value in ODD_VALUES:
+        self.assertFalse(LiveLink((1, 1, 1, 1), REST) == LiveLink((1, 1, 1, 1), ((1, 0),) + REST[1:]))
+        for value in [value for value in ODD_VALUES if not isinstance(value, LiveLink)]:
             self.assertFalse(live == value)
             self.assertTrue(value != live)
         done = LiveLink((1, 1, 1, 1), ((0, 0), (1, None, True), (0, 0, 0), (0, 0)))

@@ -4,6 +4,7 @@ import random
 import time
 import unittest
 
+from healwires import halving
 from healwires.counting import contents_numbered, how_many_contents, next_contents, number_of_contents
 from healwires.harm import harm
 from healwires.shares import next_of_harm, number_of_its_harm, of_harm_numbered, of_harms
@@ -67,6 +68,31 @@ class Quick(unittest.TestCase):
         self.assertLess(seconds(lambda: [of_harm_numbered(*row) for row in numbers]), 0.2)
         numbers = [(link, skewed(draw, how_many_contents(link))) for link in rows for _ in range(4)]
         self.assertLess(seconds(lambda: [contents_numbered(*row) for row in numbers]), 0.2)
+
+    def test_few_looks_at_any_number(self):
+        """No more than a hundred and a half, where halving alone takes six hundred of them."""
+        draw = random.Random(94)
+        links, asked = some_sound_links(draw), []
+        looked = halving.looked
+
+        def counted(*args):
+            asked.append(args)
+            return looked(*args)
+
+        halving.looked = counted
+        try:
+            for _ in range(150):
+                link = next(links)
+                rows = [(many, skewed(draw, total)) for many, total in enumerate(of_harms(link)) for _ in range(3)]
+                for many, number in rows:
+                    asked.clear()
+                    of_harm_numbered(link, many, number)
+                    self.assertLess(len(asked), 150)
+                asked.clear()
+                contents_numbered(link, skewed(draw, how_many_contents(link)))
+                self.assertLess(len(asked), 150)
+        finally:
+            halving.looked = looked
 
     def test_small_links(self):
         for work in all_of_them(SMALL, FIRST):

@@ -7,7 +7,7 @@ from healwires.harm import harm
 from healwires.rows import handed_along, how_many_given, is_row, row_faults, still_held
 from healwires.webs import web_wrong_steps
 from model import (
-    BAD_WEBS, ODD_VALUES, all_contents, check_errors, check_unchanged, expect, some_web_run, step,
+    BAD_WEBS, ODD_VALUES, all_contents, check_errors, check_unchanged, some_web_run, step,
 )
 
 BIG = 10 ** 29

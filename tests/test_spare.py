@@ -192,6 +192,11 @@ class Unforgiven(unittest.TestCase):
         self.assertIs(is_unforgiven((1, 1, 3, 2), "copy", items), False)
         for value in BAD_FAULTY + [[], [("copy", 0)]]:
             self.assertIs(is_unforgiven(link, "copy", value), False)
+        # Copies that were turned are as much too many, but no faults of the kind.
+        turned = items[:-2] + [([("send",)], 1), ("turn", "new"), ([("bring", "zero")], 1)]
+        self.assertEqual(faulty_wrong(link, empty(link, 0), turned), ["made"])
+        self.assertIs(is_unforgiven(link, "copy", turned), False)
+        self.assertIs(is_forgiven(link, turned), False)
         self.assertEqual(harm(link, faulty_after(link, empty(link, 0), items)), 1)
 
 

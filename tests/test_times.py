@@ -92,6 +92,9 @@ class Least(unittest.TestCase):
                         self.assertIs(judge(link, contents, run), True)
                         self.assertIs(judge(link, contents, run[:-1]), False)
                         self.assertIs(judge(link, contents, run + run[-1:]), False)
+                        if sum(contents[2]) < link[0]:
+                            longer = [("send",), ("drop", "new")] + run
+                            self.assertIs(judge(link, contents, longer), False)
 
     def test_judged_as_walked(self):
         """Any runs of just so many events, one event of a shortest one put in the place of another one."""

@@ -9,7 +9,7 @@ from healwires.words import (
 )
 from model import (
     BAD_LINKS, ODD_VALUES, all_word_events, all_words, check_errors, check_unchanged, expect, shares_lists,
-    some_sound_links, some_words, with_letter, word_step,
+    some_words, with_letter, word_step,
 )
 
 BIG = 10 ** 29
@@ -94,7 +94,8 @@ class Contents(unittest.TestCase):
 
     def test_the_examples_of_the_document(self):
         self.assertEqual(
-            [is_word_contents(LINK, WORDS), greatest_old(LINK, WORDS), word_harm(LINK, WORDS), word_events(LINK, WORDS)],
+            [is_word_contents(LINK, WORDS), greatest_old(LINK, WORDS), word_harm(LINK, WORDS),
+             word_events(LINK, WORDS)],
             [True, (7, 3), 2, [("bring", (0, 5)), ("bring", (0, 7)), ("drop", (0, 5)), ("drop", (0, 7))]])
         run = [("bring", (0, 7)), ("bring", (0, 7)), ("send",), ("hear", 0)]
         self.assertEqual(
@@ -447,6 +448,22 @@ class Refused(unittest.TestCase):
             self.assertEqual(word_events(link, REST), [("send",)])
             self.assertIsNone(greatest_old(link, REST))
             self.assertEqual(word_run(link, REST, [], [("send",)])[0][2], [(0, 0)])
+
+    def test_what_is_almost_a_worst_run(self):
+        given, events = word_worst(LINK, WORDS)
+        self.assertEqual(len(given), 1)
+        self.assertIs(is_word_worst(LINK, WORDS, (given, events)), True)
+        for letters in ([True], [False, 1], tuple(given), ["1"], [-1], [9, None], []):
+            self.assertIs(is_word_worst(LINK, WORDS, (letters, events)), False)
+        for event in (("hear", 0), ("hear", 1), ("bring", (0, 9)), ("send", 0), ("double", 1)):
+            self.assertIs(is_word_worst(LINK, WORDS, (given, events + [event])), False)
+        self.assertIs(is_word_worst(LINK, WORDS, (given, events + [("send",)])), True)
+
+    def test_what_is_no_event_where_much_is_possible(self):
+        words = ((0, 2, 0), (1, None, False), [(0, 2)], (1, 1))
+        for event in (("send", 0), ("double", 1), ("turn", 0), ("bring", 0), ("hear", (0, 2)), ("send", (0, 2))):
+            run = [event]
+            expect(self, word_run, ["link", "words", "given", "events"], [WIDE, words, [], run], InvalidRun, run)
 
     def test_any_value_is_judged(self):
         for value in ODD_VALUES + [([], None), (None, []), ([True], []), ([], [("send",)]), ([], [], []), ((), ())]:
