@@ -17,6 +17,8 @@ START = (
 SMALL = (2, 2, 2, 2)
 FIRST = ((0, 0), (0, None, False), (0, 0, 0), (0, 0))
 TIMES = 200
+# What a fixed piece of work takes on the machine for which the limits of time were told.
+PACE = 0.0022
 
 
 def seconds(work):
@@ -27,6 +29,19 @@ def seconds(work):
         work()
         found.append(time.perf_counter() - began)
     return min(found)
+
+
+def fixed_work():
+    """Calls and sums of about the kind that the package makes."""
+    found = 0
+    for number in range(10000):
+        found += max(number, 7) * (10 ** 29 + number) // (number + 1)
+    return found
+
+
+def slowness():
+    """How many times as slow as the machine of the limits this one is; 1 if it is not slower."""
+    return max(1, seconds(fixed_work) / PACE)
 
 
 def all_of_them(link, start):
@@ -57,17 +72,19 @@ def skewed(draw, total):
 
 class Quick(unittest.TestCase):
     def test_great_links(self):
+        limit = 0.2 * slowness()
         for work in all_of_them(GREAT, START):
-            self.assertLess(seconds(work), 0.2)
+            self.assertLess(seconds(work), limit)
 
     def test_great_links_at_any_number(self):
         draw = random.Random(91)
         links = some_sound_links(draw)
         rows = [next(links) for _ in range(TIMES // 4)]
         numbers = [(link, many, skewed(draw, of_harms(link)[many])) for link in rows for many in range(4)]
-        self.assertLess(seconds(lambda: [of_harm_numbered(*row) for row in numbers]), 0.2)
+        limit = 0.2 * slowness()
+        self.assertLess(seconds(lambda: [of_harm_numbered(*row) for row in numbers]), limit)
         numbers = [(link, skewed(draw, how_many_contents(link))) for link in rows for _ in range(4)]
-        self.assertLess(seconds(lambda: [contents_numbered(*row) for row in numbers]), 0.2)
+        self.assertLess(seconds(lambda: [contents_numbered(*row) for row in numbers]), limit)
 
     def test_few_looks_at_any_number(self):
         """No more than a hundred and a half, where halving alone takes six hundred of them."""
@@ -95,8 +112,9 @@ class Quick(unittest.TestCase):
             halving.looked = looked
 
     def test_small_links(self):
+        limit = 0.02 * slowness()
         for work in all_of_them(SMALL, FIRST):
-            self.assertLess(seconds(work), 0.02)
+            self.assertLess(seconds(work), limit)
 
 
 class Same(unittest.TestCase):
