@@ -16,7 +16,8 @@ def part_within(count, most, bend, number):
     """The greatest part, at most so much, below which there are at most so many.
 
     count is the function that tells how many there are below a part: none below 0, more than the number below what is
-    one more than the most.
+    one more than the most. At the bend, if it lies between, the count begins to grow, or ceases to: so the search keeps
+    to one side of it.
     """
     if most <= FEW:
         part = 0
